@@ -1,0 +1,1 @@
+"""Planetlocks: gearboxes whose teeth nobody knows."""

@@ -1,0 +1,61 @@
+"""The errors of the parameters: each function raises one unless its argument is of the kind that is due."""
+
+from planetlocks.errors import (
+    InvalidDifferences,
+    InvalidIndex,
+    InvalidLocks,
+    InvalidOrder,
+    InvalidRatios,
+    InvalidShaft,
+    InvalidShafts,
+    InvalidSpeeds,
+)
+from planetlocks.kinds import (
+    are_differences,
+    are_locks,
+    are_speeds,
+    are_told,
+    is_between,
+    is_integer,
+    is_shaft_order,
+)
+
+
+def need_shafts(shafts):
+    if not is_integer(shafts) or shafts < 1:
+        raise InvalidShafts("the number of shafts is an integer from 1 on")
+
+
+def need_differences(shafts, differences):
+    if not are_differences(shafts, differences):
+        raise InvalidDifferences("a list of tuples of two unlike shafts is due")
+
+
+def need_locks(shafts, locks):
+    if not are_locks(shafts, locks):
+        raise InvalidLocks("an ascending list of locks, each once, is due")
+
+
+def need_index(works, at):
+    if not is_between(at, 0, works - 1):
+        raise InvalidIndex("the index of a work of the box is due")
+
+
+def need_inlet(shafts, inlet):
+    if not is_between(inlet, 1, shafts):
+        raise InvalidShaft("a shaft from 1 on is due")
+
+
+def need_order(shafts, order):
+    if not is_shaft_order(shafts, order):
+        raise InvalidOrder("a tuple with each shaft from 1 on once is due")
+
+
+def need_told(works, told):
+    if not are_told(works, told):
+        raise InvalidRatios("a list with a fraction above 0 for each work is due")
+
+
+def need_speeds(shafts, speeds):
+    if not are_speeds(shafts, speeds):
+        raise InvalidSpeeds("a list with a fraction for each shaft, the first one 0, is due")

@@ -1,0 +1,221 @@
+"""Point 2: the errors of the parameters, their order, arguments by name, and lists that stay apart."""
+
+import unittest
+from copy import deepcopy
+
+from planetlocks import boxes, motions, webs
+from planetlocks.boxes import Box
+from planetlocks.errors import (
+    InvalidBox, InvalidDifferences, InvalidIndex, InvalidLocks, InvalidOrder, InvalidRatios, InvalidShaft,
+    InvalidShafts, InvalidSpeeds, InvalidWork,
+)
+from tests.values import any_values, nested
+
+SHAFTS = 3
+WORKS = [("planet", 1, 2, 3), ("band", 3, 1)]
+GOOD = {
+    "shafts": SHAFTS,
+    "box": Box(SHAFTS, WORKS),
+    "work": ("double", 3, 0, 1),
+    "works": WORKS,
+    "at": 1,
+    "differences": [(0, 3), (3, 1), (1, 2)],
+    "locks": [(2, 1), (3, 0)],
+    "inlet": 2,
+    "order": (3, 1, 2),
+    "told": [(5, 2), (3, 1)],
+    "speeds": [(0, 1), (1, 1), (1, 3), (0, 1)],
+    "value": [(0, 1)],
+}
+ERRORS = {
+    "shafts": InvalidShafts, "box": InvalidBox, "work": InvalidWork, "works": InvalidWork, "at": InvalidIndex,
+    "differences": InvalidDifferences, "locks": InvalidLocks, "inlet": InvalidShaft, "order": InvalidOrder,
+    "told": InvalidRatios, "speeds": InvalidSpeeds,
+}
+CALLS = {
+    webs.is_tree: ("shafts", "differences"),
+    webs.tree_sign: ("shafts", "differences"),
+    webs.holding_order: ("shafts", "differences"),
+    webs.judge_order: ("shafts", "differences", "value"),
+    webs.ring_of: ("shafts", "differences"),
+    webs.judge_ring: ("shafts", "differences", "value"),
+    webs.apart: ("shafts", "differences"),
+    webs.tree_count: ("shafts", "differences"),
+    webs.tree_sets: ("shafts", "differences"),
+    boxes.Box: ("shafts", "works"),
+    boxes.is_fraction: ("value",),
+    boxes.is_work: ("shafts", "value"),
+    boxes.is_locks: ("shafts", "value"),
+    boxes.is_ratios: ("box", "value"),
+    boxes.first_difference: ("box", "at"),
+    boxes.second_difference: ("box", "at"),
+    boxes.sense_at: ("box", "at"),
+    boxes.with_work: ("box", "work"),
+    boxes.without_work: ("box", "at"),
+    boxes.turned: ("box", "at"),
+    boxes.renamed: ("box", "order"),
+    boxes.renamed_locks: ("shafts", "order", "locks"),
+    motions.holds: ("box", "told", "locks", "speeds"),
+    motions.freedom: ("box", "told", "locks"),
+    motions.motions: ("box", "told", "locks"),
+    motions.speeds_of: ("box", "told", "locks", "inlet"),
+    motions.still: ("box", "told", "locks"),
+    motions.alike: ("box", "told", "locks"),
+}
+# Wrong values of the parameter's own form, beside the values of all kinds.
+NEAR = {
+    "shafts": [0, -1, -10 ** 39, True, "3", (3,), [3]],
+    "box": [(SHAFTS, WORKS), [SHAFTS, WORKS], (SHAFTS, tuple(WORKS)), "3 planet 1 2 3", WORKS],
+    "work": [("double", 3, 0, 4), ("double", 3, 0), ("pair", 0, 1), ("pair", 1, 1), ("band", 1, True), ["pair", 1, 2],
+             ("planet", 1, 2, 2), ("gear", 1, 2), ("planet", 1, 2, -1), ("pair", 1, 2, 3)],
+    "works": [tuple(WORKS), WORKS + [None], WORKS + [("pair", 1, 4)], WORKS + [list(WORKS[0])], WORKS[0]],
+    "at": [2, -1, True, False, 10 ** 39, "0", (0,), [1]],
+    "differences": [((0, 3), (3, 1), (1, 2)), [(0, 3), (3, 1), (1, 4)], [(0, 3), (3, 3)], [(0, 3), [3, 1]],
+                    [(0, 3), (3, -1)], [(0, True)], [(False, 1)], [(1, 0), (1,)], [(1, 0), (1, 0, 2)], [(1, "0")]],
+    "locks": [[(3, 0), (2, 1)], [(2, 1), (2, 1)], [(1, 2)], [(2, 1), (0, 3)], ((2, 1), (3, 0)), [(4, 0)], [(3, 3)],
+              [[2, 1]], [(2, True)], [(3, False)], [(3, 0, 1)], [(1, -1)]],
+    "inlet": [0, 4, -1, True, "1", (1,), [1], 10 ** 39],
+    "order": [[3, 1, 2], (3, 1), (3, 1, 2, 4), (3, 1, 1), (3, 1, 0), (3, 1, 4), (3, True, 2), (3, 1, "2"), (3, 1, [2])],
+    "told": [[(5, 2)], [(5, 2), None], [(5, 2), (3, 1), (3, 1)], [(5, 2), (0, 1)], [(5, 2), (-3, 1)], [(5, 2), (6, 2)],
+             [(5, 2), (3, 0)], [(5, 2), (-3, -1)], [(5, 2), (3, True)], [(5, 2), [3, 1]], ((5, 2), (3, 1)),
+             [(5, 2), 3], [(5, 2), (3, -1)]],
+    "speeds": [[(0, 1), (1, 1), (1, 3)], [(0, 1)] * 5, [(1, 1)] * 4, [(0, 1), (1, 1), (1, 3), None],
+               [(0, 1), (1, 1), (2, 6), (0, 1)], [(0, 1), (1, 1), (1, 3), (0, 2)], [(0, 2)] + [(0, 1)] * 3,
+               [(0, 1), (1, 1), (1, 3), (False, 1)], [(0, 1), (1, 1), [1, 3], (0, 1)], ((0, 1),) * 4, [0, 1, 1, 0],
+               [(0, 1), (1, 1), (1, -3), (0, 1)], [(0, 1), (1, 1), (1, 0), (0, 1)]],
+}
+
+
+def plain(part):
+    """Whether no truth stands in the part, which would be equal to an integer."""
+    if type(part) in (tuple, list):
+        return all(plain(one) for one in part)
+    return type(part) is not bool
+
+
+def is_right(name, value):
+    """Whether a value of any_values fits to this parameter."""
+    if name == "shafts":
+        return type(value) is int and value >= 1
+    if name == "box":
+        return type(value) is Box
+    if name == "at":
+        return type(value) is int and value in (0, 1)
+    if name == "inlet":
+        return type(value) is int and value in (1, 2, 3)
+    if name == "work":
+        return type(value) is tuple and value == ("planet", 1, 2, 3)
+    if name == "works":
+        return type(value) is list and not value
+    if name == "differences":
+        return type(value) is list and plain(value) and value in ([], [(0, 1)], [(1, 0)])
+    if name == "locks":
+        return type(value) is list and plain(value) and value in ([], [(1, 0)])
+    return False
+
+
+def wrong_values(name):
+    return NEAR[name] + [value for value in any_values() if not is_right(name, value)]
+
+
+def arguments(names):
+    return {name: deepcopy(GOOD[name]) for name in names}
+
+
+class WrongArgumentsTest(unittest.TestCase):
+    def test_each_parameter(self):
+        for call, names in CALLS.items():
+            for name in names:
+                if name == "value":
+                    continue
+                for value in wrong_values(name):
+                    with self.subTest(call=call.__name__, name=name, value=value):
+                        given = arguments(names)
+                        given[name] = value
+                        with self.assertRaises(ERRORS[name]) as caught:
+                            call(**given)
+                        self.assertIs(type(caught.exception), ERRORS[name])
+
+    def test_the_earlier_one_of_two_comes(self):
+        wrong = {name: [None, True, nested(list, 12), NEAR[name][0]] for name in ERRORS}
+        for call, names in CALLS.items():
+            due = [name for name in names if name != "value"]
+            for k, first in enumerate(due):
+                for second in due[k + 1:]:
+                    for one, other in zip(wrong[first], wrong[second]):
+                        with self.subTest(call=call.__name__, first=first, second=second):
+                            given = arguments(names)
+                            given[first], given[second] = one, other
+                            with self.assertRaises(ERRORS[first]):
+                                call(**given)
+
+    def test_all_wrong_at_once(self):
+        for call, names in CALLS.items():
+            if names == ("value",):
+                continue
+            with self.subTest(call=call.__name__), self.assertRaises(ERRORS[names[0]]):
+                call(*[None for _ in names])
+
+    def test_the_number_of_shafts_counts(self):
+        with self.assertRaises(InvalidDifferences):
+            webs.is_tree(2, [(3, 0)])
+        with self.assertRaises(InvalidLocks):
+            boxes.renamed_locks(2, (1, 2), [(3, 0)])
+        with self.assertRaises(InvalidOrder):
+            boxes.renamed_locks(2, (1, 2, 3), [(1, 0)])
+        for order in ((), (1,), (1, 2), (2,)):
+            with self.assertRaises(InvalidOrder):
+                boxes.renamed(Box(3, []), order)
+        with self.assertRaises(InvalidIndex):
+            boxes.first_difference(Box(3, []), 0)
+        with self.assertRaises(InvalidShaft):
+            motions.speeds_of(Box(1, []), [], [], 2)
+
+
+class PassingTest(unittest.TestCase):
+    def test_by_position_and_by_name(self):
+        for call, names in CALLS.items():
+            with self.subTest(call=call.__name__):
+                given = arguments(names)
+                by_name = call(**dict(reversed(list(given.items()))))
+                self.assertEqual(call(*given.values()), by_name)
+
+    def test_arguments_stay_as_they_were(self):
+        for call, names in CALLS.items():
+            with self.subTest(call=call.__name__):
+                given = arguments(names)
+                call(**given)
+                self.assertEqual(given, arguments(names))
+
+    def test_changed_results_change_no_later_ones(self):
+        for call, names in CALLS.items():
+            given = arguments(names)
+            first = call(**given)
+            if type(first) is not list:
+                continue
+            with self.subTest(call=call.__name__):
+                kept = deepcopy(first)
+                for part in first:
+                    if type(part) is list:
+                        part.append("more")
+                first.append("more")
+                self.assertEqual(call(**given), kept)
+                self.assertEqual(given, arguments(names))
+
+    def test_lists_inside_of_results_are_unlike_each_other(self):
+        for rows in (motions.motions(Box(3, []), [], []), motions.alike(Box(3, []), [], [])):
+            rows[0].append("more")
+            self.assertTrue(all("more" not in row for row in rows[1:]))
+
+    def test_a_returned_order_is_no_passed_list(self):
+        web = [(1, 0)]
+        self.assertEqual(webs.tree_sets(1, web), [(0,)])
+        locks = [(1, 0)]
+        self.assertIsNot(boxes.renamed_locks(1, (1,), locks), locks)
+
+    def test_results_of_the_package_may_be_passed(self):
+        box = Box(3, [("planet", 1, 2, 3)])
+        told = [(10 ** 40 + 1, 10 ** 39)]
+        speeds = motions.speeds_of(box, told, [(3, 0)], 1)
+        self.assertIs(motions.holds(box, told, [(3, 0)], speeds), True)
+        self.assertEqual(Box(box.shafts, list(box.works)), box)

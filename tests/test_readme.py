@@ -1,0 +1,17 @@
+"""The examples of README.md."""
+
+import doctest
+import os
+import unittest
+
+README = os.path.join(os.path.dirname(os.path.dirname(os.path.abspath(__file__))), "README.md")
+
+
+class ReadmeTest(unittest.TestCase):
+    def test_examples(self):
+        with open(README, encoding="utf-8") as file:
+            text = file.read().replace("```", "")
+        examples = doctest.DocTestParser().get_doctest(text, {}, "README.md", README, 0)
+        result = doctest.DocTestRunner().run(examples)
+        self.assertEqual(result.failed, 0)
+        self.assertGreater(result.attempted, 5)
