@@ -2,8 +2,10 @@
 
 from planetlocks.errors import (
     InvalidDifferences,
+    InvalidFraction,
     InvalidIndex,
     InvalidLocks,
+    InvalidNumber,
     InvalidOrder,
     InvalidRatios,
     InvalidShaft,
@@ -13,10 +15,14 @@ from planetlocks.errors import (
 from planetlocks.kinds import (
     are_differences,
     are_locks,
+    are_ratios,
     are_speeds,
     are_told,
+    is_above_zero,
     is_between,
+    is_from_zero,
     is_integer,
+    is_quotient,
     is_shaft_order,
 )
 
@@ -46,9 +52,19 @@ def need_inlet(shafts, inlet):
         raise InvalidShaft("a shaft from 1 on is due")
 
 
+def need_shaft(shafts, shaft):
+    if not is_between(shaft, 0, shafts):
+        raise InvalidShaft("a shaft from 0 on is due")
+
+
 def need_order(shafts, order):
     if not is_shaft_order(shafts, order):
         raise InvalidOrder("a tuple with each shaft from 1 on once is due")
+
+
+def need_ratios(works, ratios):
+    if not are_ratios(works, ratios):
+        raise InvalidRatios("a list with None or a fraction above 0 for each work is due")
 
 
 def need_told(works, told):
@@ -56,6 +72,21 @@ def need_told(works, told):
         raise InvalidRatios("a list with a fraction above 0 for each work is due")
 
 
+def need_ratio(ratio):
+    if not is_above_zero(ratio):
+        raise InvalidFraction("a fraction above 0 is due")
+
+
+def need_speed(speed):
+    if not is_quotient(speed):
+        raise InvalidFraction("a fraction is due")
+
+
 def need_speeds(shafts, speeds):
     if not are_speeds(shafts, speeds):
         raise InvalidSpeeds("a list with a fraction for each shaft, the first one 0, is due")
+
+
+def need_number(number):
+    if not is_from_zero(number):
+        raise InvalidNumber("an integer from 0 on is due")

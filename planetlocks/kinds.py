@@ -18,6 +18,10 @@ def is_between(value, least, greatest):
     return is_integer(value) and least <= value <= greatest
 
 
+def is_from_zero(value):
+    return is_integer(value) and value >= 0
+
+
 def is_pair(value):
     return type(value) is tuple and len(value) == 2
 
@@ -61,6 +65,10 @@ def is_quotient(value):
     return value[1] >= 1 and gcd(value[0], value[1]) == 1
 
 
+def are_quotients(value):
+    return type(value) is list and all([is_quotient(part) for part in value])
+
+
 def is_above_zero(value):
     return is_quotient(value) and value[0] > 0
 
@@ -79,11 +87,25 @@ def are_ratios(works, value):
 
 def are_speeds(shafts, value):
     """Whether the value is a list of fractions, one for each shaft from 0 on, the first one 0."""
-    if type(value) is not list or len(value) != shafts + 1:
-        return False
-    return all([is_quotient(part) for part in value]) and value[0] == (0, 1)
+    return are_quotients(value) and len(value) == shafts + 1 and value[0] == (0, 1)
 
 
 def is_shaft_order(shafts, value):
     """Whether the value is a tuple with each shaft from 1 on once."""
     return type(value) is tuple and len(value) == shafts and _are_unlike(value, 1, shafts)
+
+
+def are_terms(value):
+    """Whether the value is a list of tuples (unknowns, number); the number may be 0, unknowns may come again."""
+    return type(value) is list and all([_is_term(part) for part in value])
+
+
+def _is_term(value):
+    return is_pair(value) and _are_unknowns(value[0]) and is_integer(value[1])
+
+
+def _are_unknowns(value):
+    """Whether the value is an ascending tuple of unlike integers from 0 on."""
+    if type(value) is not tuple or not all([is_from_zero(part) for part in value]):
+        return False
+    return all([value[at - 1] < value[at] for at in range(1, len(value))])

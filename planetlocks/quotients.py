@@ -17,3 +17,25 @@ def lowest(top, bottom):
 def divided(one, other):
     """One fraction by another one that is not 0."""
     return lowest(one[0] * other[1], one[1] * other[0])
+
+
+def is_less(one, other):
+    return one[0] * other[1] < other[0] * one[1]
+
+
+def least_of(fractions):
+    """The least fraction of a list that is not empty."""
+    least = fractions[0]
+    for fraction in fractions:
+        if is_less(fraction, least):
+            least = fraction
+    return least
+
+
+def greatest_of(fractions):
+    """The greatest fraction of a list that is not empty."""
+    greatest = fractions[0]
+    for fraction in fractions:
+        if is_less(greatest, fraction):
+            greatest = fraction
+    return greatest

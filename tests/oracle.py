@@ -103,3 +103,67 @@ def is_motion(shafts, works, told, locks, speeds):
 def tells(rows, row):
     """Whether the rows being 0 makes this one 0."""
     return rank(rows + [row]) == rank(rows)
+
+
+def worth(terms, worths):
+    """What the sum of the terms is at these worths, fractions of Python's own."""
+    total = Fraction(0)
+    for unknowns, number in terms:
+        part = Fraction(number)
+        for unknown in unknowns:
+            part *= worths[unknown]
+        total += part
+    return total
+
+
+def choices(shafts, works, locks, extra):
+    """All tuples (choice, sign) of trees, ascending."""
+    found = []
+    for choice in product((0, 1), repeat=len(works)):
+        row = [differences_of(work)[pick] for work, pick in zip(works, choice)] + locks + extra
+        if is_tree(shafts, row):
+            square = [difference_row(shafts, difference)[1:] for difference in row]
+            found.append((choice, determinant(square)))
+    return found
+
+
+def tree_terms(shafts, works, ratios, locks, extra):
+    """The ascending terms of the tree form."""
+    totals = {}
+    for choice, sign in choices(shafts, works, locks, extra):
+        unknowns, number = (), sign
+        for at, (work, pick) in enumerate(zip(works, choice)):
+            if ratios[at] is None:
+                unknowns += (at,) * pick
+                number *= sense_of(work) if pick else 1
+            else:
+                number *= sense_of(work) * ratios[at][0] if pick else ratios[at][1]
+        totals[unknowns] = totals.get(unknowns, 0) + number
+    return sorted((unknowns, number) for unknowns, number in totals.items() if number)
+
+
+def corners(ratios, far=10 ** 40):
+    """Told ratios with each unknown one very great or very small."""
+    picks = [((far, 1), (1, far)) if ratio is None else (ratio,) for ratio in ratios]
+    return [list(told) for told in product(*picks)]
+
+
+def splits(terms):
+    """All ways to share the unknowns among two sides such that the form is a product of a form of each side."""
+    unknowns = sorted({unknown for one, _ in terms for unknown in one})
+    found = []
+    for sides in product((0, 1), repeat=len(unknowns)):
+        one = tuple(unknown for unknown, side in zip(unknowns, sides) if side)
+        other = tuple(unknown for unknown in unknowns if unknown not in one)
+        if one and other and unknowns[0] in one and rank(square_of(terms, one)) == 1:
+            found.append((one, other))
+    return found
+
+
+def square_of(terms, one):
+    """The numbers of the terms by their unknowns on this side and their other unknowns."""
+    rows, columns = {}, sorted({tuple(u for u in unknowns if u not in one) for unknowns, _ in terms})
+    for unknowns, number in terms:
+        row = rows.setdefault(tuple(u for u in unknowns if u in one), [0] * len(columns))
+        row[columns.index(tuple(u for u in unknowns if u not in one))] = number
+    return list(rows.values())

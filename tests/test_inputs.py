@@ -3,12 +3,13 @@
 import unittest
 from copy import deepcopy
 
-from planetlocks import boxes, motions, webs
+from planetlocks import boxes, forms, motions, parts, ranges, trees, webs
 from planetlocks.boxes import Box
 from planetlocks.errors import (
-    InvalidBox, InvalidDifferences, InvalidIndex, InvalidLocks, InvalidOrder, InvalidRatios, InvalidShaft,
-    InvalidShafts, InvalidSpeeds, InvalidWork,
+    InvalidBox, InvalidDifferences, InvalidForm, InvalidFraction, InvalidIndex, InvalidLocks, InvalidNumber,
+    InvalidOrder, InvalidRatios, InvalidShaft, InvalidShafts, InvalidSpeeds, InvalidWork,
 )
+from planetlocks.forms import Form
 from tests.values import any_values, nested
 
 SHAFTS = 3
@@ -26,11 +27,29 @@ GOOD = {
     "told": [(5, 2), (3, 1)],
     "speeds": [(0, 1), (1, 1), (1, 3), (0, 1)],
     "value": [(0, 1)],
+    "terms": [((1,), -2), ((), 3)],
+    "form": Form([((0,), 1), ((1,), -2)]),
+    "other_form": Form([((2,), 3), ((), 1)]),
+    "forms": [Form([((0,), 1), ((1,), -2)]), Form([((0,), 2)])],
+    "unknown": 1,
+    "size": 3,
+    "ratio": (5, 2),
+    "ratios": [None],
+    "extra": [(1, 0)],
+    "shaft": 2,
+    "other_shaft": 0,
+    "speed": (2, 7),
 }
+# What a gear needs that has just as many locks as are due.
+GEAR = {"box": Box(SHAFTS, WORKS[:1]), "locks": [(3, 0)], "inlet": 1}
+TIED = {"box": Box(SHAFTS, WORKS[:1]), "locks": [(2, 1), (3, 0)]}
 ERRORS = {
     "shafts": InvalidShafts, "box": InvalidBox, "work": InvalidWork, "works": InvalidWork, "at": InvalidIndex,
     "differences": InvalidDifferences, "locks": InvalidLocks, "inlet": InvalidShaft, "order": InvalidOrder,
-    "told": InvalidRatios, "speeds": InvalidSpeeds,
+    "told": InvalidRatios, "speeds": InvalidSpeeds, "terms": InvalidForm, "form": InvalidForm,
+    "other_form": InvalidForm, "forms": InvalidForm, "unknown": InvalidNumber, "size": InvalidNumber,
+    "ratio": InvalidFraction, "ratios": InvalidRatios, "extra": InvalidDifferences, "shaft": InvalidShaft,
+    "other_shaft": InvalidShaft, "speed": InvalidFraction,
 }
 CALLS = {
     webs.is_tree: ("shafts", "differences"),
@@ -61,6 +80,29 @@ CALLS = {
     motions.speeds_of: ("box", "told", "locks", "inlet"),
     motions.still: ("box", "told", "locks"),
     motions.alike: ("box", "told", "locks"),
+    forms.Form: ("terms",),
+    forms.sense_of: ("form",),
+    forms.unknowns_of: ("form",),
+    forms.above: ("form", "size"),
+    forms.below: ("form", "size"),
+    forms.at_zero: ("form", "size"),
+    forms.with_told: ("form", "unknown", "ratio"),
+    forms.never_below: ("form", "unknown"),
+    trees.tree_form: ("box", "ratios", "locks", "extra"),
+    trees.choices_of: ("box", "locks", "extra"),
+    trees.driven: ("box", "ratios", "locks", "inlet"),
+    trees.undriven: ("box", "ratios", "locks", "inlet"),
+    trees.tied: ("box", "ratios", "locks"),
+    trees.untied: ("box", "ratios", "locks"),
+    ranges.speed_range: ("box", "ratios", "locks", "inlet", "shaft"),
+    ranges.slip_range: ("box", "ratios", "locks", "inlet", "shaft", "other_shaft"),
+    ranges.compared: ("box", "ratios", "locks", "inlet", "shaft", "other_shaft"),
+    ranges.ratios_for: ("box", "ratios", "locks", "inlet", "shaft", "speed"),
+    ranges.sure_order: ("box", "ratios", "locks", "inlet"),
+    ranges.same_speeds: ("box", "ratios", "locks", "inlet"),
+    parts.parts: ("form",),
+    parts.product: ("form", "other_form"),
+    parts.product_sense: ("forms",),
 }
 # Wrong values of the parameter's own form, beside the values of all kinds.
 NEAR = {
@@ -83,6 +125,20 @@ NEAR = {
                [(0, 1), (1, 1), (2, 6), (0, 1)], [(0, 1), (1, 1), (1, 3), (0, 2)], [(0, 2)] + [(0, 1)] * 3,
                [(0, 1), (1, 1), (1, 3), (False, 1)], [(0, 1), (1, 1), [1, 3], (0, 1)], ((0, 1),) * 4, [0, 1, 1, 0],
                [(0, 1), (1, 1), (1, -3), (0, 1)], [(0, 1), (1, 1), (1, 0), (0, 1)]],
+    "terms": [(((1,), -2),), [((1,), -2), [(), 3]], [((2, 1), 1)], [((1, 1), 1)], [((-1,), 1)], [((1,), True)],
+              [((True,), 1)], [([1], 1)], [((1,), 1, 1)], [((1,),)], [(1, 1)], [((1,), "1")], [((1,), (1, 1))]],
+    "form": [[((0,), 1)], ((0,), 1), [Form([])], (Form([]),), "0", {}],
+    "other_form": [[((2,), 3)], ((2,), 3), [Form([])], (Form([]),), "0", {}],
+    "forms": [(Form([]),), Form([]), [Form([]), None], [[Form([])]], [[((0,), 1)]], [0], {}],
+    "unknown": [-1, -10 ** 39, True, False, "1", (1,), [1], (1, 1)],
+    "size": [-1, -10 ** 39, True, False, "3", (3,), [3], (3, 1)],
+    "ratio": [(0, 1), (-5, 2), (10, 4), (5, 0), (5, -2), (-5, -2), (5, True), [5, 2], 5, "5/2", (5,), (5, 2, 1)],
+    "ratios": [[], [None, None], [(5, 2), (3, 1)], (None,), [(0, 1)], [(-5, 2)], [(10, 4)], [(5, 0)], [[5, 2]], [5],
+               [False], [0], [(5, 2), None], [(True, 2)], "?"],
+    "extra": [((1, 0),), [(1, 0), (1, 4)], [(3, 3)], [[3, 1]], [(3, -1)], [(0, True)], [(1,)], [(1, 0, 2)], [(1, "0")]],
+    "shaft": [4, -1, True, False, "1", (1,), [1], 10 ** 39, (1, 1)],
+    "other_shaft": [4, -1, True, False, "0", (0,), [0], 10 ** 39, (0, 1)],
+    "speed": [(2, 14), (0, 2), (2, 0), (2, -7), (True, 1), (1, True), [2, 7], 2, "2/7", (2,), (2, 7, 1)],
 }
 
 
@@ -107,7 +163,23 @@ def is_right(name, value):
         return type(value) is tuple and value == ("planet", 1, 2, 3)
     if name == "works":
         return type(value) is list and not value
-    if name == "differences":
+    if name in ("form", "other_form"):
+        return type(value) is Form
+    if name == "forms":
+        return value == [] or type(value) is list and all(type(one) is Form for one in value)
+    if name == "terms":
+        return type(value) is list and not value
+    if name in ("unknown", "size"):
+        return type(value) is int and value >= 0
+    if name == "ratio":
+        return plain(value) and value == (1, 1)
+    if name == "speed":
+        return plain(value) and value in ((1, 1), (0, 1))
+    if name == "ratios":
+        return type(value) is list and plain(value) and value in ([None], [(1, 1)])
+    if name in ("shaft", "other_shaft"):
+        return type(value) is int and value in (0, 1, 2, 3)
+    if name in ("differences", "extra"):
         return type(value) is list and plain(value) and value in ([], [(0, 1)], [(1, 0)])
     if name == "locks":
         return type(value) is list and plain(value) and value in ([], [(1, 0)])
@@ -118,8 +190,14 @@ def wrong_values(name):
     return NEAR[name] + [value for value in any_values() if not is_right(name, value)]
 
 
-def arguments(names):
-    return {name: deepcopy(GOOD[name]) for name in names}
+def arguments(call):
+    """New right arguments by name, such that the call raises nothing."""
+    own = {}
+    if call in (trees.tied, trees.untied):
+        own = TIED
+    elif call.__module__ in ("planetlocks.trees", "planetlocks.ranges"):
+        own = GEAR
+    return {name: deepcopy(own.get(name, GOOD[name])) for name in CALLS[call]}
 
 
 class WrongArgumentsTest(unittest.TestCase):
@@ -130,7 +208,7 @@ class WrongArgumentsTest(unittest.TestCase):
                     continue
                 for value in wrong_values(name):
                     with self.subTest(call=call.__name__, name=name, value=value):
-                        given = arguments(names)
+                        given = arguments(call)
                         given[name] = value
                         with self.assertRaises(ERRORS[name]) as caught:
                             call(**given)
@@ -144,7 +222,7 @@ class WrongArgumentsTest(unittest.TestCase):
                 for second in due[k + 1:]:
                     for one, other in zip(wrong[first], wrong[second]):
                         with self.subTest(call=call.__name__, first=first, second=second):
-                            given = arguments(names)
+                            given = arguments(call)
                             given[first], given[second] = one, other
                             with self.assertRaises(ERRORS[first]):
                                 call(**given)
@@ -176,20 +254,20 @@ class PassingTest(unittest.TestCase):
     def test_by_position_and_by_name(self):
         for call, names in CALLS.items():
             with self.subTest(call=call.__name__):
-                given = arguments(names)
+                given = arguments(call)
                 by_name = call(**dict(reversed(list(given.items()))))
                 self.assertEqual(call(*given.values()), by_name)
 
     def test_arguments_stay_as_they_were(self):
         for call, names in CALLS.items():
             with self.subTest(call=call.__name__):
-                given = arguments(names)
+                given = arguments(call)
                 call(**given)
-                self.assertEqual(given, arguments(names))
+                self.assertEqual(given, arguments(call))
 
     def test_changed_results_change_no_later_ones(self):
         for call, names in CALLS.items():
-            given = arguments(names)
+            given = arguments(call)
             first = call(**given)
             if type(first) is not list:
                 continue
@@ -200,7 +278,7 @@ class PassingTest(unittest.TestCase):
                         part.append("more")
                 first.append("more")
                 self.assertEqual(call(**given), kept)
-                self.assertEqual(given, arguments(names))
+                self.assertEqual(given, arguments(call))
 
     def test_lists_inside_of_results_are_unlike_each_other(self):
         for rows in (motions.motions(Box(3, []), [], []), motions.alike(Box(3, []), [], [])):
@@ -212,6 +290,14 @@ class PassingTest(unittest.TestCase):
         self.assertEqual(webs.tree_sets(1, web), [(0,)])
         locks = [(1, 0)]
         self.assertIsNot(boxes.renamed_locks(1, (1,), locks), locks)
+
+    def test_lists_in_tuples_are_new(self):
+        form = Form([((0,), 1), ((1,), -2)])
+        parts.parts(form)[1].append("more")
+        self.assertEqual(parts.parts(form), (1, [form]))
+        zero = parts.parts(Form([]))
+        zero[1].append("more")
+        self.assertEqual(parts.parts(Form([])), (0, []))
 
     def test_results_of_the_package_may_be_passed(self):
         box = Box(3, [("planet", 1, 2, 3)])

@@ -14,6 +14,15 @@ INTERFACE = {
     "boxes.py": "Box is_fraction is_work is_locks is_ratios first_difference second_difference sense_at with_work "
                 "without_work turned renamed renamed_locks",
     "motions.py": "holds freedom motions speeds_of still alike",
+    "forms.py": "Form sense_of unknowns_of above below at_zero with_told never_below",
+    "trees.py": "tree_form choices_of driven undriven tied untied",
+    "ranges.py": "speed_range slip_range compared ratios_for sure_order same_speeds",
+    "parts.py": "parts product product_sense",
+}
+
+METHODS = {
+    "Box": "__init__ shafts works __len__ __add__ __eq__",
+    "Form": "__init__ terms __len__ __iter__ __add__ __sub__ __neg__ __mul__ __call__ __eq__",
 }
 
 
@@ -60,3 +69,12 @@ class LanguageTest(unittest.TestCase):
             body = ast.parse(texts[name]).body
             defined = [node.name for node in body if isinstance(node, (ast.FunctionDef, ast.ClassDef))]
             self.assertLessEqual(set(words.split()), set(defined))
+
+    def test_methods_are_defined_in_their_classes(self):
+        found = {}
+        for _, text in files():
+            for node in ast.parse(text).body:
+                if isinstance(node, ast.ClassDef):
+                    found[node.name] = {part.name for part in node.body if isinstance(part, ast.FunctionDef)}
+        for name, words in METHODS.items():
+            self.assertLessEqual(set(words.split()), found[name])

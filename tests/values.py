@@ -2,6 +2,7 @@
 
 from planetlocks.boxes import Box
 from planetlocks.errors import BoxError, Contradiction
+from planetlocks.forms import Form
 
 
 def nested(make, depth):
@@ -22,4 +23,5 @@ def any_values():
         [], [0], [1, 0], [None], [True], [()], [[]], [(0, 1)], [(1, 0)], [(1, 1)], ["pair", 1, 2], [Box(2, [])],
         [(1, 0, 0)], [(True, False)], [(1, [0])], [[1, 0]], ["10"], list(range(400)), [[]] * 400, nested(list, 12),
         Box(1, []), Box(3, [("planet", 1, 2, 3)]), BoxError("words"), Contradiction(2),
+        Form([]), Form([((0,), 1), ((), -2)]), [Form([])], (Form([]), Form([])), [(Form([]), 0)], [[Form([])]],
     ]

@@ -1,0 +1,39 @@
+"""Boxes with works of all kinds, ratios and locks, by chance but the same in each run."""
+
+import random
+
+from planetlocks.boxes import Box
+
+TOLD = [(1, 1), (2, 1), (1, 3), (5, 2)]
+
+
+def random_work(chance, shafts):
+    kind = chance.choice(["planet", "double", "pair", "band"])
+    if kind in ("planet", "double"):
+        return (kind, *chance.sample(range(shafts + 1), 3))
+    return (kind, *chance.sample(range(1, shafts + 1), 2))
+
+
+def random_locks(chance, shafts, count):
+    """So many unlike locks, ascending."""
+    locks = [(a, b) for a in range(1, shafts + 1) for b in range(a)]
+    return sorted(chance.sample(locks, count))
+
+
+def random_gears(seed, count, missing=1, shafts=(2, 3, 4, 5)):
+    """Tuples (box, ratios, locks); works and locks are so many fewer than shafts; none, some or all ratios told."""
+    chance = random.Random(seed)
+    found = []
+    for _ in range(count):
+        size = chance.choice(shafts)
+        works = chance.randint(0, size - missing)
+        box = Box(size, [random_work(chance, size) for _ in range(works)])
+        told = chance.choice([0, 0.5, 1])
+        ratios = [chance.choice(TOLD) if chance.random() < told else None for _ in range(works)]
+        found.append((box, ratios, random_locks(chance, size, size - missing - works)))
+    return found
+
+
+def random_told(chance, ratios):
+    """The ratios, each unknown one told by chance."""
+    return [(chance.choice(TOLD) if ratio is None else ratio) for ratio in ratios]
