@@ -63,19 +63,17 @@ def is_ratios(box, value):
 
 def first_difference(box, at):
     """The first difference of the work with this index."""
-    work = _work_at(box, at)
-    return (work[1], _middle(work))
+    return ends_of(_work_at(box, at))[0]
 
 
 def second_difference(box, at):
     """The second difference of the work with this index."""
-    work = _work_at(box, at)
-    return (work[-1], _middle(work))
+    return ends_of(_work_at(box, at))[1]
 
 
 def sense_at(box, at):
     """The sense of the work with this index, 1 or -1."""
-    return SENSES[_work_at(box, at)[0]]
+    return ends_of(_work_at(box, at))[2]
 
 
 def with_work(box, work):
@@ -114,6 +112,12 @@ def renamed_locks(shafts, order, locks):
     names = _new_names(order)
     pairs = [(names[lock[0]], names[lock[1]]) for lock in locks]
     return sorted([(max(pair), min(pair)) for pair in pairs])
+
+
+def ends_of(work):
+    """Both differences of a work, and its sense."""
+    middle = _middle(work)
+    return ((work[1], middle), (work[-1], middle), SENSES[work[0]])
 
 
 def need_box(box):

@@ -3,8 +3,11 @@
 from planetlocks.errors import (
     InvalidDifferences,
     InvalidFraction,
+    InvalidGears,
     InvalidIndex,
+    InvalidLock,
     InvalidLocks,
+    InvalidLooks,
     InvalidNumber,
     InvalidOrder,
     InvalidRatios,
@@ -14,12 +17,15 @@ from planetlocks.errors import (
 )
 from planetlocks.kinds import (
     are_differences,
+    are_gears,
     are_locks,
+    are_looks,
     are_ratios,
     are_speeds,
     are_told,
     is_above_zero,
     is_between,
+    is_difference,
     is_from_zero,
     is_integer,
     is_quotient,
@@ -42,6 +48,17 @@ def need_locks(shafts, locks):
         raise InvalidLocks("an ascending list of locks, each once, is due")
 
 
+def need_gears(shafts, gears):
+    if not are_gears(shafts, gears):
+        raise InvalidGears("a list of lists of locks is due")
+
+
+def need_lock(shafts, locks, lock):
+    # What is no difference may be equal to a lock all the same: (True, 0) is equal to (1, 0).
+    if not is_difference(shafts, lock) or lock not in locks:
+        raise InvalidLock("one of the locks is due")
+
+
 def need_index(works, at):
     if not is_between(at, 0, works - 1):
         raise InvalidIndex("the index of a work of the box is due")
@@ -55,6 +72,11 @@ def need_inlet(shafts, inlet):
 def need_shaft(shafts, shaft):
     if not is_between(shaft, 0, shafts):
         raise InvalidShaft("a shaft from 0 on is due")
+
+
+def need_other_inlet(shafts, inlet, other_inlet):
+    if not is_between(other_inlet, 1, shafts) or other_inlet == inlet:
+        raise InvalidShaft("another shaft from 1 on is due")
 
 
 def need_order(shafts, order):
@@ -85,6 +107,11 @@ def need_speed(speed):
 def need_speeds(shafts, speeds):
     if not are_speeds(shafts, speeds):
         raise InvalidSpeeds("a list with a fraction for each shaft, the first one 0, is due")
+
+
+def need_looks(shafts, looks):
+    if not are_looks(shafts, looks):
+        raise InvalidLooks("a list of tuples of locks and speeds is due")
 
 
 def need_number(number):

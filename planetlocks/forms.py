@@ -3,7 +3,19 @@
 from planetlocks.demands import need_number, need_ratio
 from planetlocks.errors import InvalidForm, InvalidNumber, InvalidRatios
 from planetlocks.kinds import are_quotients, are_terms, is_integer
-from planetlocks.quotients import ONE, ZERO, divided, greatest_of, is_less, least_of, lowest
+from planetlocks.quotients import ZERO, greatest_of, is_less, least_of, lowest
+from planetlocks.tables import (
+    gathered,
+    mixed,
+    raising,
+    rest_of,
+    scaled,
+    sense_of_table,
+    slope_of,
+    unknowns_in,
+    worth_of,
+    zero_of,
+)
 
 
 class Form:
@@ -12,7 +24,7 @@ class Form:
     def __init__(self, terms):
         if not are_terms(terms):
             raise InvalidForm("a list of tuples of ascending unknowns and a number is due")
-        self._terms = _gathered(terms)
+        self._terms = _ascending(gathered(terms))
 
     @property
     def terms(self):
@@ -30,68 +42,70 @@ class Form:
     def __add__(self, other):
         if not isinstance(other, Form):
             raise InvalidForm("only a form can be added to a form")
-        return Form(list(self._terms + other._terms))
+        return form_of(mixed(table_of(self), 1, table_of(other), 1))
 
     def __sub__(self, other):
         if not isinstance(other, Form):
             raise InvalidForm("only a form can be taken from a form")
-        return Form(list(self._terms) + [(unknowns, -number) for unknowns, number in other._terms])
+        return form_of(mixed(table_of(self), 1, table_of(other), -1))
 
     def __neg__(self):
-        return Form([(unknowns, -number) for unknowns, number in self._terms])
+        return form_of(scaled(table_of(self), -1))
 
     def __mul__(self, other):
         if not is_integer(other):
             raise InvalidNumber("a form can be multiplied only by an integer")
-        return Form([(unknowns, number * other) for unknowns, number in self._terms])
+        return form_of(scaled(table_of(self), other))
 
     def __call__(self, worths):
         """The worth of the form, where worths[k] is the worth of the unknown k."""
-        unknowns = unknowns_of(self)
-        if not are_quotients(worths) or not all([unknown < len(worths) for unknown in unknowns]):
+        table = table_of(self)
+        if not are_quotients(worths) or not all([unknown < len(worths) for unknown in unknowns_in(table)]):
             raise InvalidRatios("a list with a fraction for each unknown of the form is due")
-        return _worth(self, unknowns, worths)
+        return worth_of(table, worths)
+
+
+def form_of(table):
+    """The form that is this table."""
+    form = Form([])
+    # What is set here is a table already, so nothing of it has to be looked at again.
+    form._terms = _ascending(table)
+    return form
+
+
+def table_of(form):
+    """The form as a table, in the order of its terms."""
+    return dict(form._terms)
 
 
 def sense_of(form):
     """The sense of the form for all ratios above 0: zero, plus, minus or both."""
     need_form(form)
-    if len(form) == 0:
-        return "zero"
-    signs = [number > 0 for _, number in form]
-    if all(signs):
-        return "plus"
-    return "both" if any(signs) else "minus"
+    return sense_of_table(table_of(form))
 
 
 def unknowns_of(form):
     """The ascending list of the unknowns in the terms of the form."""
     need_form(form)
-    return sorted({unknown for unknowns, _ in form for unknown in unknowns})
+    return unknowns_in(table_of(form))
 
 
 def above(form, size):
     """So many fractions above 0 at which the form is above 0; None if there are none."""
     _need_room(form, size)
-    return _raising(form, size)
+    return raising(table_of(form), size)
 
 
 def below(form, size):
     """So many fractions above 0 at which the form is below 0; None if there are none."""
     _need_room(form, size)
-    return _raising(-form, size)
+    return raising(scaled(table_of(form), -1), size)
 
 
 def at_zero(form, size):
     """So many fractions above 0 at which the form is 0; None if there are none."""
     _need_room(form, size)
-    if len(form) == 0:
-        return [ONE] * size
-    low = _raising(-form, size)
-    high = _raising(form, size)
-    if low is None or high is None:
-        return None
-    return _between(form, low, high)
+    return zero_of(table_of(form), size)
 
 
 def with_told(form, unknown, ratio):
@@ -99,7 +113,8 @@ def with_told(form, unknown, ratio):
     need_form(form)
     need_number(unknown)
     need_ratio(ratio)
-    return rest_of(form, unknown) * ratio[1] + slope_of(form, unknown) * ratio[0]
+    table = table_of(form)
+    return form_of(mixed(rest_of(table, unknown), ratio[1], slope_of(table, unknown), ratio[0]))
 
 
 def never_below(form, unknown):
@@ -109,7 +124,7 @@ def never_below(form, unknown):
     """
     need_form(form)
     need_number(unknown)
-    lines = _lines(form, unknown)
+    lines = _lines(table_of(form), unknown)
     if any([start < 0 and slope == 0 for start, slope in lines]):
         return None
     low = greatest_of([ZERO] + [lowest(-start, slope) for start, slope in lines if slope > 0])
@@ -120,16 +135,6 @@ def never_below(form, unknown):
     if high[0] <= 0 or is_less(high, low):
         return None
     return (low, high)
-
-
-def rest_of(form, unknown):
-    """The form without the terms that have this unknown: what it is with 0 for it."""
-    return Form([(unknowns, number) for unknowns, number in form if unknown not in unknowns])
-
-
-def slope_of(form, unknown):
-    """By what the form grows if this unknown grows by 1: the terms that have it, without it."""
-    return Form([(_without(unknowns, unknown), number) for unknowns, number in form if unknown in unknowns])
 
 
 def need_form(form):
@@ -151,65 +156,13 @@ def _need_room(form, size):
         raise InvalidNumber("a size above each unknown of the form is due")
 
 
-def _gathered(terms):
-    """The ascending terms, each product of unknowns once, without those with the number 0."""
-    totals = {}
-    for unknowns, number in terms:
-        totals[unknowns] = totals.get(unknowns, 0) + number
-    return tuple(sorted([(unknowns, totals[unknowns]) for unknowns in totals if totals[unknowns] != 0]))
+def _ascending(table):
+    return tuple(sorted(list(table.items())))
 
 
-def _without(unknowns, unknown):
-    return tuple([other for other in unknowns if other != unknown])
-
-
-def _worth(form, unknowns, worths):
-    """The worth, added up over one denominator, that of all unknowns together, so that all sums are of integers."""
-    total = 0
-    for chosen, number in form:
-        part = number
-        for unknown in unknowns:
-            part = part * worths[unknown][0 if unknown in chosen else 1]
-        total = total + part
-    bottom = 1
-    for unknown in unknowns:
-        bottom = bottom * worths[unknown][1]
-    return lowest(total, bottom)
-
-
-def _raising(form, size):
-    """So many fractions at which the term with the greatest number decides; None if no number is above 0.
-
-    Each other product of unknowns is at least by the factor weight less than that of this term, whether it lacks an
-    unknown of it or has a further one; and weight times the greatest number is more than all numbers below 0 together.
-    """
-    most = max([number for _, number in form], default=0)
-    if most <= 0:
-        return None
-    chosen = [unknowns for unknowns, number in form if number == most][0]
-    against = sum([-number for _, number in form if number < 0])
-    weight = against // most + 1
-    return [(weight, 1) if unknown in chosen else (1, weight) for unknown in range(size)]
-
-
-def _between(form, low, high):
-    """Fractions at which the form is 0, on a way from low, where it is below 0, to high, where it is above 0.
-
-    The way changes one worth in each step, and along a step the form is a straight line: where it comes to 0 or
-    beyond, the place of 0 is a fraction.
-    """
-    at = 0
-    while form(high[:at + 1] + low[at + 1:])[0] < 0:
-        at += 1
-    worths = high[:at] + low[at:]
-    rest = rest_of(-form, at)
-    slope = slope_of(form, at)
-    return high[:at] + [divided(rest(worths), slope(worths))] + low[at + 1:]
-
-
-def _lines(form, unknown):
+def _lines(table, unknown):
     """For each product of the other unknowns the tuple (start, slope): its number is start + slope * this unknown."""
-    starts = dict(rest_of(form, unknown).terms)
-    slopes = dict(slope_of(form, unknown).terms)
+    starts = rest_of(table, unknown)
+    slopes = slope_of(table, unknown)
     products = sorted(set(list(starts) + list(slopes)))
     return [(starts.get(unknowns, 0), slopes.get(unknowns, 0)) for unknowns in products]

@@ -41,6 +41,10 @@ def are_locks(shafts, value):
     return all([value[at - 1] < value[at] for at in range(1, len(value))])
 
 
+def are_gears(shafts, value):
+    return type(value) is list and all([are_locks(shafts, part) for part in value])
+
+
 def is_one_work(shafts, value):
     if type(value) is not tuple or len(value) < 3 or type(value[0]) is not str:
         return False
@@ -88,6 +92,15 @@ def are_ratios(works, value):
 def are_speeds(shafts, value):
     """Whether the value is a list of fractions, one for each shaft from 0 on, the first one 0."""
     return are_quotients(value) and len(value) == shafts + 1 and value[0] == (0, 1)
+
+
+def are_looks(shafts, value):
+    """Whether the value is a list of tuples of locks and the speeds of all shafts."""
+    return type(value) is list and all([_is_look(shafts, part) for part in value])
+
+
+def _is_look(shafts, value):
+    return is_pair(value) and are_locks(shafts, value[0]) and are_speeds(shafts, value[1])
 
 
 def is_shaft_order(shafts, value):

@@ -6,14 +6,15 @@ Inside of this file a form is a table, a dict from products of unknowns to numbe
 from math import gcd
 
 from planetlocks.errors import SharedUnknown
-from planetlocks.forms import Form, need_form, need_forms, sense_of, unknowns_of
+from planetlocks.forms import form_of, need_form, need_forms, table_of, unknowns_of
+from planetlocks.tables import sense_of_table
 
 
 def parts(form):
     """The number and the list of Forms whose product is the form, ordered by their least unknowns; (0, []) for 0."""
     need_form(form)
-    number, tables = _split(dict(form.terms))
-    return (number, [_form_of(table) for table in tables])
+    number, tables = parts_of_table(table_of(form))
+    return (number, [form_of(table) for table in tables])
 
 
 def product(form, other_form):
@@ -23,26 +24,34 @@ def product(form, other_form):
     others = unknowns_of(other_form)
     if any([unknown in others for unknown in unknowns_of(form)]):
         raise SharedUnknown("an unknown stands in both forms")
-    return _form_of(_times(dict(form.terms), dict(other_form.terms)))
+    return form_of(_times(table_of(form), table_of(other_form)))
 
 
 def product_sense(forms):
     """The sense of the product of all forms of a list, also of such that share unknowns."""
     need_forms(forms)
-    splits = [parts(form) for form in forms]
-    sign = 1
-    for number, _ in splits:
-        sign = sign * _sign_of(number)
-    if sign == 0:
+    return sense_of_product([table_of(form) for form in forms])
+
+
+def sense_of_product(tables):
+    """The sense of the product of all tables of a list."""
+    senses = [sense_of_table(table) for table in tables]
+    if "zero" in senses:
         return "zero"
-    counts = _counts([part for _, found in splits for part in found if sense_of(part) == "both"])
+    changing = [tables[at] for at in range(len(tables)) if senses[at] == "both"]
+    # The parts of one table are in unlike unknowns, so that none of them stands in it twice.
+    if len(changing) == 1:
+        return "both"
+    splits = [parts_of_table(table) for table in changing]
+    counts = _counts([part for _, found in splits for part in found if sense_of_table(part) == "both"])
     if any([count % 2 == 1 for count in counts]):
         return "both"
     # A part that is 0 somewhere is left only in pairs, and all other parts are above 0.
-    return ("plus" if sign > 0 else "minus") + (" or zero" if counts else "")
+    falls = senses.count("minus") + len([number for number, _ in splits if number < 0])
+    return ("plus" if falls % 2 == 0 else "minus") + (" or zero" if changing else "")
 
 
-def _split(table):
+def parts_of_table(table):
     """The number and the parts of a table, ordered by their least unknowns.
 
     With the least unknown x the table is rest + slope * x. The parts without x are those that rest and slope share;
@@ -55,8 +64,8 @@ def _split(table):
     if not firsts:
         return (table[()], [])
     least = min(firsts)
-    rest_number, rest_parts = _split(_rest(table, least))
-    slope_number, slope_parts = _split(_slope(table, least))
+    rest_number, rest_parts = parts_of_table(_rest(table, least))
+    slope_number, slope_parts = parts_of_table(_slope(table, least))
     if rest_number == 0:
         rest_parts = slope_parts
     shared = [part for part in slope_parts if part in rest_parts]
@@ -101,21 +110,10 @@ def _primitive(table):
     return (number, {unknowns: table[unknowns] // number for unknowns in table})
 
 
-def _form_of(table):
-    return Form(list(table.items()))
-
-
-def _sign_of(number):
-    """1, 0 or -1, as the number is above 0, 0 or below."""
-    if number == 0:
-        return 0
-    return 1 if number > 0 else -1
-
-
-def _counts(forms):
-    """How often each form stands in the list."""
+def _counts(tables):
+    """How often each table stands in the list."""
     counts = {}
-    for form in forms:
-        key = tuple(form.terms)
+    for table in tables:
+        key = tuple(sorted(list(table.items())))
         counts[key] = counts.get(key, 0) + 1
     return list(counts.values())

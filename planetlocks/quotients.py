@@ -14,6 +14,14 @@ def lowest(top, bottom):
     return (top // common, bottom // common)
 
 
+def difference_of(one, other):
+    return lowest(one[0] * other[1] - other[0] * one[1], one[1] * other[1])
+
+
+def product_of(one, other):
+    return lowest(one[0] * other[0], one[1] * other[1])
+
+
 def divided(one, other):
     """One fraction by another one that is not 0."""
     return lowest(one[0] * other[1], one[1] * other[0])

@@ -1,10 +1,10 @@
 """What the speeds of a gear are for all ratios: their ranges, and which of two shafts is surely the faster one."""
 
 from planetlocks.demands import need_shaft, need_speed
-from planetlocks.errors import NotDriven
-from planetlocks.forms import sense_of
 from planetlocks.spans import span_of
-from planetlocks.trees import need_gear, speed_form, zero_ratios
+from planetlocks.tables import mixed, scaled, sense_of_table
+from planetlocks.trees import need_balance, need_driving, need_gear, zero_ratios
+from planetlocks.walks import gear_ways, slip_table
 
 COMPARISONS = {"plus": "faster", "zero": "same", "minus": "slower", "both": "either"}
 
@@ -13,8 +13,8 @@ def speed_range(box, ratios, locks, inlet, shaft):
     """The range of the speed of the shaft."""
     need_gear(box, ratios, locks, inlet)
     need_shaft(box.shafts, shaft)
-    drive, form = speeds_by_drive(box, ratios, locks, inlet, [shaft])
-    return span_of(form, drive)
+    ways, drive = driven_ways(box, ratios, locks, inlet)
+    return span_of(slip_table(ways, shaft, 0), drive)
 
 
 def slip_range(box, ratios, locks, inlet, shaft, other_shaft):
@@ -26,7 +26,7 @@ def slip_range(box, ratios, locks, inlet, shaft, other_shaft):
 def compared(box, ratios, locks, inlet, shaft, other_shaft):
     """Whether the shaft is faster than the other one, the same or slower for all ratios, else either."""
     slip, _ = _slip(box, ratios, locks, inlet, shaft, other_shaft)
-    return COMPARISONS[sense_of(slip)]
+    return COMPARISONS[sense_of_table(slip)]
 
 
 def ratios_for(box, ratios, locks, inlet, shaft, speed):
@@ -34,50 +34,53 @@ def ratios_for(box, ratios, locks, inlet, shaft, speed):
     need_gear(box, ratios, locks, inlet)
     need_shaft(box.shafts, shaft)
     need_speed(speed)
-    drive, form = speeds_by_drive(box, ratios, locks, inlet, [shaft])
-    return zero_ratios(form * speed[1] - drive * speed[0], ratios)
+    ways, drive = driven_ways(box, ratios, locks, inlet)
+    return wished_ratios(slip_table(ways, shaft, 0), drive, ratios, speed)
 
 
 def sure_order(box, ratios, locks, inlet):
     """The ascending list of the tuples (a, b) of shafts of which a is surely faster than b."""
-    forms = _all_speeds(box, ratios, locks, inlet)
+    need_gear(box, ratios, locks, inlet)
+    ways, _ = driven_ways(box, ratios, locks, inlet)
     shafts = range(box.shafts + 1)
-    return [(one, other) for one in shafts for other in shafts if sense_of(forms[one] - forms[other]) == "plus"]
+    pairs = [(one, other) for one in shafts for other in shafts]
+    return [pair for pair in pairs if sense_of_table(slip_table(ways, pair[0], pair[1])) == "plus"]
 
 
 def same_speeds(box, ratios, locks, inlet):
     """The ascending lists of shafts, 0 too, that have one speed for all ratios, ordered by their first shafts."""
-    forms = _all_speeds(box, ratios, locks, inlet)
+    need_gear(box, ratios, locks, inlet)
+    ways, _ = driven_ways(box, ratios, locks, inlet)
     groups = {}
     for shaft in range(box.shafts + 1):
-        key = tuple(forms[shaft].terms)
+        key = tuple(sorted(list(slip_table(ways, shaft, 0).items())))
         groups[key] = groups.get(key, []) + [shaft]
     return list(groups.values())
 
 
-def speeds_by_drive(box, ratios, locks, inlet, shafts):
-    """The drive form, then the forms of these shafts that, by the drive form, are their speeds.
+def driven_ways(box, ratios, locks, inlet):
+    """The ways of a gear and its drive form, as a table, both with such signs that the drive form is above 0.
 
-    Raises NotDriven unless the gear is driven for all ratios. The signs are such that the drive form is above 0.
+    Raises Unbalanced unless it is a gear, then NotDriven unless it is driven for all ratios.
     """
-    drive = speed_form(box, ratios, locks, inlet)
-    sense = sense_of(drive)
-    if sense not in ("plus", "minus"):
-        raise NotDriven("the inlet does not drive the gear for all ratios")
-    turn = 1 if sense == "plus" else -1
-    return [drive * turn] + [speed_form(box, ratios, locks, shaft) * turn for shaft in shafts]
+    need_balance(box, locks, 1)
+    ways = gear_ways(box, ratios, locks)
+    drive = slip_table(ways, inlet, 0)
+    need_driving(drive)
+    if sense_of_table(drive) == "plus":
+        return (ways, drive)
+    return ([(product, -number, groups) for product, number, groups in ways], scaled(drive, -1))
+
+
+def wished_ratios(form, drive, ratios, speed):
+    """The ratios, all told, at which one table by the other one is this speed; None if there are none."""
+    return zero_ratios(mixed(form, speed[1], drive, -speed[0]), ratios)
 
 
 def _slip(box, ratios, locks, inlet, shaft, other_shaft):
-    """The forms above and below of the speed of the shaft less that of the other one."""
+    """The table that, by the drive form, is the speed of the shaft less that of the other one, and the drive form."""
     need_gear(box, ratios, locks, inlet)
     need_shaft(box.shafts, shaft)
     need_shaft(box.shafts, other_shaft)
-    drive, form, other_form = speeds_by_drive(box, ratios, locks, inlet, [shaft, other_shaft])
-    return (form - other_form, drive)
-
-
-def _all_speeds(box, ratios, locks, inlet):
-    need_gear(box, ratios, locks, inlet)
-    shafts = list(range(box.shafts + 1))
-    return speeds_by_drive(box, ratios, locks, inlet, shafts)[1:]
+    ways, drive = driven_ways(box, ratios, locks, inlet)
+    return (slip_table(ways, shaft, other_shaft), drive)

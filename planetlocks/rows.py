@@ -1,6 +1,7 @@
-"""Rows of equations over the speeds of shafts: dicts from shafts to integers that are not 0.
+"""Rows of equations: dicts from columns, integers from 1 on, to integers that are not 0.
 
-A row says that the sum of its integers times the speeds of their shafts is 0. The housing has no place in a row.
+A row says that the sum of its integers times what stands in their columns is 0. For motions these are the speeds of
+the shafts, and the housing has no place in a row; for loads they are torques.
 """
 
 from math import gcd
@@ -14,16 +15,27 @@ def difference_row(difference):
 
 def combined(row, factor, other, other_factor):
     """The sum of both rows, each one times its factor."""
-    total = {shaft: factor * row[shaft] for shaft in row}
-    for shaft in other:
-        total[shaft] = total.get(shaft, 0) + other_factor * other[shaft]
-    return {shaft: total[shaft] for shaft in total if total[shaft] != 0}
+    total = {column: factor * row[column] for column in row}
+    for column in other:
+        total[column] = total.get(column, 0) + other_factor * other[column]
+    return {column: total[column] for column in total if total[column] != 0}
+
+
+def is_kept(row, worths):
+    """Whether the row holds, where worths[k] is the fraction in the place of the column k."""
+    top = 0
+    bottom = 1
+    for column in row:
+        worth = worths[column]
+        top = top * worth[1] + row[column] * worth[0] * bottom
+        bottom = bottom * worth[1]
+    return top == 0
 
 
 def solved(rows):
-    """Rows with the same solutions, by the greatest shaft of each; no row has the greatest shaft of another one.
+    """Rows with the same solutions, by the greatest column of each; no row has the greatest column of another one.
 
-    So each row tells the speed of its greatest shaft by speeds of lesser shafts that no row tells.
+    So each row tells what stands in its greatest column by lesser columns that no row tells.
     """
     leads = {}
     for row in rows:
@@ -34,29 +46,29 @@ def solved(rows):
 
 
 def _without_leads(row, leads):
-    for shaft in list(row):
-        if shaft in leads:
-            row = _cleared(row, leads[shaft], shaft)
+    for column in list(row):
+        if column in leads:
+            row = _cleared(row, leads[column], column)
     return row
 
 
 def _with_lead(leads, row):
     lead = max(list(row))
     changed = {lead: row}
-    for shaft in leads:
-        old = leads[shaft]
-        changed[shaft] = _shortened(_cleared(old, row, lead)) if lead in old else old
+    for column in leads:
+        old = leads[column]
+        changed[column] = _shortened(_cleared(old, row, lead)) if lead in old else old
     return changed
 
 
-def _cleared(row, other, shaft):
-    """The row with as much of the other one as takes the shaft out of it."""
-    return combined(row, other[shaft], other, -row[shaft])
+def _cleared(row, other, column):
+    """The row with as much of the other one as takes the column out of it."""
+    return combined(row, other[column], other, -row[column])
 
 
 def _shortened(row):
     """The row without a common divisor, so that its integers stay small."""
     common = 0
-    for shaft in row:
-        common = gcd(common, row[shaft])
-    return {shaft: row[shaft] // common for shaft in row}
+    for column in row:
+        common = gcd(common, row[column])
+    return {column: row[column] // common for column in row}

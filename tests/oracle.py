@@ -167,3 +167,72 @@ def square_of(terms, one):
         row = rows.setdefault(tuple(u for u in unknowns if u in one), [0] * len(columns))
         row[columns.index(tuple(u for u in unknowns if u not in one))] = number
     return list(rows.values())
+
+
+def speeds(shafts, works, told, locks, inlet):
+    """The only motion with the speed 1 at the inlet, as fractions of Python's own, or None."""
+    rows = relations(shafts, works, told, locks)
+    return solution(rows + [[int(k == inlet) for k in range(shafts + 1)]], [0] * len(rows) + [1])
+
+
+def solution(rows, sums):
+    """The only list of fractions whose products with each row add up to its sum, or None if it is not just one."""
+    width = len(rows[0])
+    whole = [[Fraction(number) for number in row] + [Fraction(due)] for row, due in zip(rows, sums)]
+    if rank([row[:-1] for row in whole]) < width or rank(whole) > width:
+        return None
+    done = 0
+    for column in range(width):
+        lead = next(row for row in whole[done:] if row[column] != 0)
+        whole.remove(lead)
+        lead = [number / lead[column] for number in lead]
+        whole = [[a - row[column] * b for a, b in zip(row, lead)] for row in whole]
+        whole.insert(done, lead)
+        done += 1
+    return [row[-1] for row in whole[:width]]
+
+
+def torques(shafts, works, told, locks, inlet, outlet, torque, loads, lock_loads):
+    """The sums of all torques on the shafts from 1 on, of fractions of Python's own."""
+    total = [Fraction(0)] * (shafts + 1)
+    total[inlet] += 1
+    total[outlet] += torque
+    for (a, b), load in zip(locks, lock_loads):
+        total[a] += load
+        total[b] -= load
+    for work, ratio, load in zip(works, told, loads):
+        (a, b), (c, d) = differences_of(work)
+        total[a] += load
+        total[b] -= load
+        total[c] += sense_of(work) * Fraction(*ratio) * load
+        total[d] -= sense_of(work) * Fraction(*ratio) * load
+    return total[1:]
+
+
+def balances(shafts, works, told, locks, inlet, outlet):
+    """The list of torque and loads if there is just one balance, else None."""
+    count = 1 + len(works) + len(locks)
+
+    def at(numbers):
+        return torques(shafts, works, told, locks, inlet, outlet,
+                       numbers[0], numbers[1:1 + len(works)], numbers[1 + len(works):])
+    base = at([Fraction(0)] * count)
+    columns = [[one - zero for one, zero in zip(at([Fraction(int(k == m)) for m in range(count)]), base)]
+               for k in range(count)]
+    return solution([list(row) for row in zip(*columns)], [-zero for zero in base])
+
+
+def is_within(found, worth):
+    """Whether the worth is in the range."""
+    low, high = found
+    if low is not None and low == high:
+        return worth == Fraction(*low)
+    return (low is None or Fraction(*low) < worth) and (high is None or worth < Fraction(*high))
+
+
+def fits_sense(sense, worths):
+    """Whether worths at some ratios go with this sense for all ratios."""
+    above, below = any(worth > 0 for worth in worths), any(worth < 0 for worth in worths)
+    if sense in ("plus", "minus"):
+        return all(worth > 0 if sense == "plus" else worth < 0 for worth in worths)
+    return {"zero": not above and not below, "plus or zero": not below, "minus or zero": not above, "both": True}[sense]

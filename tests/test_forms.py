@@ -5,7 +5,6 @@ import unittest
 from fractions import Fraction
 from itertools import product
 
-from planetlocks import forms
 from planetlocks.boxes import Box, is_fraction
 from planetlocks.errors import InvalidForm, InvalidFraction, InvalidNumber, InvalidRatios
 from planetlocks.forms import Form, above, at_zero, below, never_below, sense_of, unknowns_of, with_told
@@ -350,10 +349,3 @@ class NeverBelowTest(unittest.TestCase):
         if found is None:
             return False
         return Fraction(*found[0]) <= ratio and (found[1] is None or ratio <= Fraction(*found[1]))
-
-
-class HelpersTest(unittest.TestCase):
-    def test_rest_and_slope(self):
-        form = Form([((0, 1), 1), ((1,), -2), ((), 4)])
-        self.assertEqual(forms.rest_of(form, 1).terms, [((), 4)])
-        self.assertEqual(forms.slope_of(form, 1).terms, [((), -2), ((0,), 1)])

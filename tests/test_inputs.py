@@ -2,12 +2,13 @@
 
 import unittest
 from copy import deepcopy
+from sys import modules
 
-from planetlocks import boxes, forms, motions, parts, ranges, trees, webs
+from planetlocks import boxes, forms, loads, motions, parts, ranges, splits, steps, told, trees, webs
 from planetlocks.boxes import Box
 from planetlocks.errors import (
-    InvalidBox, InvalidDifferences, InvalidForm, InvalidFraction, InvalidIndex, InvalidLocks, InvalidNumber,
-    InvalidOrder, InvalidRatios, InvalidShaft, InvalidShafts, InvalidSpeeds, InvalidWork,
+    InvalidBox, InvalidDifferences, InvalidForm, InvalidFraction, InvalidGears, InvalidIndex, InvalidLock, InvalidLocks,
+    InvalidLooks, InvalidNumber, InvalidOrder, InvalidRatios, InvalidShaft, InvalidShafts, InvalidSpeeds, InvalidWork,
 )
 from planetlocks.forms import Form
 from tests.values import any_values, nested
@@ -39,17 +40,31 @@ GOOD = {
     "shaft": 2,
     "other_shaft": 0,
     "speed": (2, 7),
+    "other_locks": [(2, 1)],
+    "lock": (3, 0),
+    "gears": [[(2, 0)], [(3, 0)], [(2, 1)]],
+    "outlet": 2,
+    "other_inlet": 3,
+    "looks": [([(3, 0)], [(0, 1), (1, 1), (2, 7), (0, 1)])],
 }
 # What a gear needs that has just as many locks as are due.
 GEAR = {"box": Box(SHAFTS, WORKS[:1]), "locks": [(3, 0)], "inlet": 1}
 TIED = {"box": Box(SHAFTS, WORKS[:1]), "locks": [(2, 1), (3, 0)]}
+TOLD_GEAR = {"told": [(5, 2)], "at": 0, **GEAR}
+SPLIT = {**TOLD_GEAR, "locks": []}
+# In which arguments a module needs a gear; one call may need others.
+OWN = {
+    trees: GEAR, ranges: GEAR, steps: TOLD_GEAR, loads: TOLD_GEAR, splits: SPLIT, told: GEAR,
+    trees.tied: TIED, trees.untied: TIED,
+}
 ERRORS = {
     "shafts": InvalidShafts, "box": InvalidBox, "work": InvalidWork, "works": InvalidWork, "at": InvalidIndex,
     "differences": InvalidDifferences, "locks": InvalidLocks, "inlet": InvalidShaft, "order": InvalidOrder,
     "told": InvalidRatios, "speeds": InvalidSpeeds, "terms": InvalidForm, "form": InvalidForm,
     "other_form": InvalidForm, "forms": InvalidForm, "unknown": InvalidNumber, "size": InvalidNumber,
     "ratio": InvalidFraction, "ratios": InvalidRatios, "extra": InvalidDifferences, "shaft": InvalidShaft,
-    "other_shaft": InvalidShaft, "speed": InvalidFraction,
+    "other_shaft": InvalidShaft, "speed": InvalidFraction, "other_locks": InvalidLocks, "lock": InvalidLock,
+    "gears": InvalidGears, "outlet": InvalidShaft, "other_inlet": InvalidShaft, "looks": InvalidLooks,
 }
 CALLS = {
     webs.is_tree: ("shafts", "differences"),
@@ -103,6 +118,30 @@ CALLS = {
     parts.parts: ("form",),
     parts.product: ("form", "other_form"),
     parts.product_sense: ("forms",),
+    steps.changed: ("shafts", "locks", "other_locks"),
+    steps.step_forms: ("box", "ratios", "locks", "other_locks", "inlet", "outlet"),
+    steps.step_sense: ("box", "ratios", "locks", "other_locks", "inlet", "outlet"),
+    steps.step_at: ("box", "told", "locks", "other_locks", "inlet", "outlet"),
+    steps.ladder: ("box", "ratios", "gears", "inlet", "outlet"),
+    loads.balance: ("box", "told", "locks", "inlet", "outlet"),
+    loads.is_balance: ("box", "told", "locks", "inlet", "outlet", "value"),
+    loads.torque_range: ("box", "ratios", "locks", "inlet", "outlet"),
+    loads.load_range: ("box", "ratios", "locks", "inlet", "outlet", "lock"),
+    loads.work_load_range: ("box", "ratios", "locks", "inlet", "outlet", "at"),
+    loads.power_sense: ("box", "ratios", "locks", "inlet", "outlet", "lock"),
+    loads.freewheel: ("box", "ratios", "locks", "other_locks", "inlet", "outlet"),
+    splits.split_driven: ("box", "ratios", "locks", "inlet", "other_inlet"),
+    splits.unsplit: ("box", "ratios", "locks", "inlet", "other_inlet"),
+    splits.shares: ("box", "told", "locks", "inlet", "other_inlet", "shaft"),
+    splits.share_range: ("box", "ratios", "locks", "inlet", "other_inlet", "shaft"),
+    splits.sum_range: ("box", "ratios", "locks", "inlet", "other_inlet", "shaft"),
+    splits.blend: ("box", "ratios", "locks", "inlet", "other_inlet", "shaft"),
+    splits.rest_range: ("box", "ratios", "locks", "inlet", "other_inlet", "shaft"),
+    splits.torque_split: ("box", "ratios", "locks", "inlet", "other_inlet", "outlet"),
+    told.told_by: ("box", "looks"),
+    told.depends: ("box", "ratios", "locks", "inlet", "shaft"),
+    told.ratio_from: ("box", "ratios", "locks", "inlet", "shaft", "speed"),
+    told.look_plan: ("box", "ratios", "gears", "inlet"),
 }
 # Wrong values of the parameter's own form, beside the values of all kinds.
 NEAR = {
@@ -118,7 +157,7 @@ NEAR = {
               [[2, 1]], [(2, True)], [(3, False)], [(3, 0, 1)], [(1, -1)]],
     "inlet": [0, 4, -1, True, "1", (1,), [1], 10 ** 39],
     "order": [[3, 1, 2], (3, 1), (3, 1, 2, 4), (3, 1, 1), (3, 1, 0), (3, 1, 4), (3, True, 2), (3, 1, "2"), (3, 1, [2])],
-    "told": [[(5, 2)], [(5, 2), None], [(5, 2), (3, 1), (3, 1)], [(5, 2), (0, 1)], [(5, 2), (-3, 1)], [(5, 2), (6, 2)],
+    "told": [[(5, 2), None], [(5, 2)], [(5, 2), (3, 1), (3, 1)], [(5, 2), (0, 1)], [(5, 2), (-3, 1)], [(5, 2), (6, 2)],
              [(5, 2), (3, 0)], [(5, 2), (-3, -1)], [(5, 2), (3, True)], [(5, 2), [3, 1]], ((5, 2), (3, 1)),
              [(5, 2), 3], [(5, 2), (3, -1)]],
     "speeds": [[(0, 1), (1, 1), (1, 3)], [(0, 1)] * 5, [(1, 1)] * 4, [(0, 1), (1, 1), (1, 3), None],
@@ -139,7 +178,16 @@ NEAR = {
     "shaft": [4, -1, True, False, "1", (1,), [1], 10 ** 39, (1, 1)],
     "other_shaft": [4, -1, True, False, "0", (0,), [0], 10 ** 39, (0, 1)],
     "speed": [(2, 14), (0, 2), (2, 0), (2, -7), (True, 1), (1, True), [2, 7], 2, "2/7", (2,), (2, 7, 1)],
+    "lock": [(0, 3), (1, 0), (2, 1), (4, 0), (True, 0), (3, False), [3, 0], "3-0", (3,), (3, 0, 0), [(3, 0)], 0],
+    "gears": [([(3, 0)],), [((3, 0),)], [(3, 0)], [[(0, 3)]], [[(3, 0)], None], [[(3, 0)], [(3, 0), (2, 0)]], [[[3, 0]]],
+              [[(4, 0)]], [[(3, True)]], [[(2, 1), (2, 1)]], {}, [()]],
+    "outlet": [0, 4, -1, True, "2", (2,), [2], 10 ** 39],
+    "other_inlet": [0, 4, -1, 1, True, "3", (3,), [3], 10 ** 39],
+    "looks": [([(3, 0)],), [[[], [(0, 1)] * 4]], [([], [(0, 1)] * 3)], [([], [(0, 1)] * 5)], [([], [(1, 1)] * 4)],
+              [([(0, 3)], [(0, 1)] * 4)], [([], ((0, 1),) * 4)], [((), [(0, 1)] * 4)], [([], [(0, 1)] * 4, 0)], [([],)],
+              [([], [(0, 1), (2, 4), (0, 1), (0, 1)])], [([], [(0, 1)] * 4), None], [[]], {}],
 }
+NEAR["other_locks"] = NEAR["locks"]
 
 
 def plain(part):
@@ -149,16 +197,20 @@ def plain(part):
     return type(part) is not bool
 
 
-def is_right(name, value):
-    """Whether a value of any_values fits to this parameter."""
+def is_right(name, value, works):
+    """Whether a value fits to this parameter, in a call with so many works."""
     if name == "shafts":
         return type(value) is int and value >= 1
     if name == "box":
         return type(value) is Box
     if name == "at":
-        return type(value) is int and value in (0, 1)
-    if name == "inlet":
+        return type(value) is int and 0 <= value < works
+    if name == "told":
+        return type(value) is list and plain(value) and value in ([(5, 2)], [(1, 1)]) and works == 1
+    if name in ("inlet", "outlet"):
         return type(value) is int and value in (1, 2, 3)
+    if name == "other_inlet":
+        return type(value) is int and value in (2, 3)
     if name == "work":
         return type(value) is tuple and value == ("planet", 1, 2, 3)
     if name == "works":
@@ -181,22 +233,22 @@ def is_right(name, value):
         return type(value) is int and value in (0, 1, 2, 3)
     if name in ("differences", "extra"):
         return type(value) is list and plain(value) and value in ([], [(0, 1)], [(1, 0)])
-    if name == "locks":
+    if name == "gears":
+        return type(value) is list and value in ([], [[]], [[]] * 400)
+    if name == "looks":
+        return type(value) is list and not value
+    if name in ("locks", "other_locks"):
         return type(value) is list and plain(value) and value in ([], [(1, 0)])
     return False
 
 
-def wrong_values(name):
-    return NEAR[name] + [value for value in any_values() if not is_right(name, value)]
+def wrong_values(name, works):
+    return [value for value in NEAR[name] + any_values() if not is_right(name, value, works)]
 
 
 def arguments(call):
     """New right arguments by name, such that the call raises nothing."""
-    own = {}
-    if call in (trees.tied, trees.untied):
-        own = TIED
-    elif call.__module__ in ("planetlocks.trees", "planetlocks.ranges"):
-        own = GEAR
+    own = OWN.get(call, OWN.get(modules[call.__module__], {}))
     return {name: deepcopy(own.get(name, GOOD[name])) for name in CALLS[call]}
 
 
@@ -206,7 +258,7 @@ class WrongArgumentsTest(unittest.TestCase):
             for name in names:
                 if name == "value":
                     continue
-                for value in wrong_values(name):
+                for value in wrong_values(name, len(arguments(call).get("box", []))):
                     with self.subTest(call=call.__name__, name=name, value=value):
                         given = arguments(call)
                         given[name] = value
@@ -298,6 +350,11 @@ class PassingTest(unittest.TestCase):
         zero = parts.parts(Form([]))
         zero[1].append("more")
         self.assertEqual(parts.parts(Form([])), (0, []))
+
+        box = Box(3, [("planet", 1, 2, 3)])
+        loads.balance(box, [(5, 2)], [(3, 0)], 1, 2)[1].append("more")
+        loads.balance(box, [(5, 2)], [(3, 0)], 1, 2)[2].append("more")
+        self.assertEqual(loads.balance(box, [(5, 2)], [(3, 0)], 1, 2), ((-7, 2), [(-1, 1)], [(5, 2)]))
 
     def test_results_of_the_package_may_be_passed(self):
         box = Box(3, [("planet", 1, 2, 3)])

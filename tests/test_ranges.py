@@ -13,11 +13,10 @@ from planetlocks.ranges import compared, ratios_for, same_speeds, slip_range, sp
 from planetlocks.trees import driven
 from tests import oracle
 from tests.gears import random_gears, random_told
+from tests.judging import JudgingTest
 
 SET_OF = Box(3, [("planet", 1, 2, 3)])
 DOUBLE = Box(3, [("double", 1, 2, 3)])
-NEAR = Fraction(1, 10 ** 9)
-FAR = 10 ** 9
 
 
 def driven_gears(seed, count):
@@ -35,26 +34,7 @@ def speeds_at(box, told, locks, inlet):
     return [Fraction(*speed) for speed in speeds_of(box, told, locks, inlet)]
 
 
-def is_within(found, worth):
-    low, high = found
-    if low is not None and low == high:
-        return worth == Fraction(*low)
-    return (low is None or Fraction(*low) < worth) and (high is None or worth < Fraction(*high))
-
-
-class RangeTest(unittest.TestCase):
-    def judge(self, found, worths, far_worths):
-        """Whether a range holds all these worths, and the worths at very great and small ratios come to its ends."""
-        self.assertTrue(type(found) is tuple and len(found) == 2)
-        self.assertTrue(all(end is None or is_fraction(end) for end in found))
-        for worth in worths + far_worths:
-            self.assertTrue(is_within(found, worth), (found, worth))
-        for end, extreme in zip(found, (min(far_worths), max(far_worths))):
-            if end is None:
-                self.assertGreater(abs(extreme), FAR)
-            else:
-                self.assertLess(abs(extreme - Fraction(*end)), NEAR)
-
+class RangeTest(JudgingTest):
     def test_example(self):
         self.assertEqual(speed_range(SET_OF, [None], [(3, 0)], 1, 2), ((0, 1), (1, 1)))
         self.assertEqual(speed_range(SET_OF, [None], [(2, 0)], 1, 3), (None, (0, 1)))
@@ -97,13 +77,13 @@ class RangeTest(unittest.TestCase):
             for shaft in shafts:
                 with self.subTest(works=box.works, ratios=ratios, locks=locks, inlet=inlet, shaft=shaft):
                     found = speed_range(box, ratios, locks, inlet, shaft)
-                    self.judge(found, [row[shaft] for row in some], [row[shaft] for row in far])
+                    self.judge_range(found, [row[shaft] for row in some], [row[shaft] for row in far])
                     if ratios.count(None) == len(ratios):
                         self.assertTrue(all(end in ((-1, 1), (0, 1), (1, 1), None) for end in found))
                 other = chance.choice(shafts)
                 with self.subTest(works=box.works, ratios=ratios, locks=locks, inlet=inlet, shafts=(shaft, other)):
                     found = slip_range(box, ratios, locks, inlet, shaft, other)
-                    self.judge(found, [row[shaft] - row[other] for row in some],
+                    self.judge_range(found, [row[shaft] - row[other] for row in some],
                                [row[shaft] - row[other] for row in far])
                     kinds.add((found[0] is None, found[1] is None, found[0] == found[1]))
         self.assertEqual(len(kinds), 5)
@@ -181,7 +161,7 @@ class RatiosForTest(unittest.TestCase):
                     pair = (speed.numerator, speed.denominator)
                     told = ratios_for(box, ratios, locks, inlet, shaft, pair)
                     with self.subTest(works=box.works, ratios=ratios, locks=locks, inlet=inlet, speed=speed):
-                        self.assertEqual(told is not None, is_within(found, speed))
+                        self.assertEqual(told is not None, oracle.is_within(found, speed))
                         if told is not None:
                             self.assertEqual(speeds_of(box, told, locks, inlet)[shaft], pair)
                             self.assertTrue(all(is_fraction(ratio) and ratio[0] > 0 for ratio in told))

@@ -6,9 +6,10 @@ from fractions import Fraction
 
 from planetlocks.boxes import Box, first_difference, is_ratios, second_difference
 from planetlocks.errors import InvalidDifferences, InvalidLocks, InvalidRatios, InvalidShaft, Unbalanced
-from planetlocks.forms import Form, sense_of
+from planetlocks.forms import Form
 from planetlocks.motions import freedom, speeds_of
-from planetlocks.trees import choices_of, driven, speed_form, tied, tree_form, undriven, untied
+from planetlocks.trees import choices_of, driven, tied, tree_form, undriven, untied
+from planetlocks.walks import gear_ways, slip_table
 from planetlocks.webs import tree_sign
 from tests import oracle
 from tests.gears import random_gears, random_told
@@ -257,8 +258,10 @@ class DrivenTest(unittest.TestCase):
 
 class SpeedFormTest(unittest.TestCase):
     def test_shaft_0(self):
-        self.assertEqual(speed_form(SET_OF, [None], [(3, 0)], 0), Form([]))
-        self.assertEqual(sense_of(speed_form(SET_OF, [None], [(3, 0)], 3)), "zero")
+        ways = gear_ways(SET_OF, [None], [(3, 0)])
+        self.assertEqual(slip_table(ways, 0, 0), {})
+        self.assertEqual(slip_table(ways, 3, 0), {})
+        self.assertEqual(slip_table(ways, 1, 0), dict(tree_form(SET_OF, [None], [(3, 0)], [(1, 0)]).terms))
 
     def test_rivals(self):
         form = tree_form(RIVALS, [None] * 3, [], [(1, 0)])
