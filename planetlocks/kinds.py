@@ -30,13 +30,17 @@ def is_difference(shafts, value):
     return is_pair(value) and all([is_between(part, 0, shafts) for part in value]) and value[0] != value[1]
 
 
+def is_lock(shafts, value):
+    return is_difference(shafts, value) and value[0] > value[1]
+
+
 def are_differences(shafts, value):
     return type(value) is list and all([is_difference(shafts, part) for part in value])
 
 
 def are_locks(shafts, value):
     """Whether the value is a list of locks, ascending, each once."""
-    if not are_differences(shafts, value) or not all([lock[0] > lock[1] for lock in value]):
+    if type(value) is not list or not all([is_lock(shafts, part) for part in value]):
         return False
     return all([value[at - 1] < value[at] for at in range(1, len(value))])
 

@@ -74,12 +74,18 @@ def crossing(box, ratios, locks, other_locks):
     return (gear_ways(box, ratios, [common for common in locks if common != lock]), lock, other)
 
 
+def are_neighbours(locks, other_locks):
+    return len(_only_in(locks, other_locks)) == 1 and len(_only_in(other_locks, locks)) == 1
+
+
 def _exchange(locks, other_locks):
-    own = [lock for lock in locks if lock not in other_locks]
-    others = [lock for lock in other_locks if lock not in locks]
-    if len(own) != 1 or len(others) != 1:
+    if not are_neighbours(locks, other_locks):
         raise NotNeighbours("the gears do not differ by just one lock")
-    return (own[0], others[0])
+    return (_only_in(locks, other_locks)[0], _only_in(other_locks, locks)[0])
+
+
+def _only_in(locks, other_locks):
+    return [lock for lock in locks if lock not in other_locks]
 
 
 def _turning(ways, inlet, outlet):

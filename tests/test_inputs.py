@@ -4,11 +4,14 @@ import unittest
 from copy import deepcopy
 from sys import modules
 
-from planetlocks import boxes, forms, loads, motions, parts, ranges, splits, steps, told, trees, webs
+from planetlocks import (
+    boxes, forms, live, loads, motions, parts, plans, ranges, splits, steps, told, trees, webs, words,
+)
 from planetlocks.boxes import Box
 from planetlocks.errors import (
     InvalidBox, InvalidDifferences, InvalidForm, InvalidFraction, InvalidGears, InvalidIndex, InvalidLock, InvalidLocks,
-    InvalidLooks, InvalidNumber, InvalidOrder, InvalidRatios, InvalidShaft, InvalidShafts, InvalidSpeeds, InvalidWork,
+    InvalidLooks, InvalidNumber, InvalidOrder, InvalidRatios, InvalidShaft, InvalidShafts, InvalidSpeeds, InvalidWords,
+    InvalidWork,
 )
 from planetlocks.forms import Form
 from tests.values import any_values, nested
@@ -46,6 +49,10 @@ GOOD = {
     "outlet": 2,
     "other_inlet": 3,
     "looks": [([(3, 0)], [(0, 1), (1, 1), (2, 7), (0, 1)])],
+    "offered": [(2, 0), (2, 1), (3, 0)],
+    "words": "3 planet 1 2 3",
+    "low": (-1, 2),
+    "high": None,
 }
 # What a gear needs that has just as many locks as are due.
 GEAR = {"box": Box(SHAFTS, WORKS[:1]), "locks": [(3, 0)], "inlet": 1}
@@ -55,7 +62,8 @@ SPLIT = {**TOLD_GEAR, "locks": []}
 # In which arguments a module needs a gear; one call may need others.
 OWN = {
     trees: GEAR, ranges: GEAR, steps: TOLD_GEAR, loads: TOLD_GEAR, splits: SPLIT, told: GEAR,
-    trees.tied: TIED, trees.untied: TIED,
+    trees.tied: TIED, trees.untied: TIED, plans: GEAR, live: GEAR, words: GEAR,
+    words.read_ratios: {"words": "5/2", **GEAR}, words.read_locks: {"words": "2-1 3-0"},
 }
 ERRORS = {
     "shafts": InvalidShafts, "box": InvalidBox, "work": InvalidWork, "works": InvalidWork, "at": InvalidIndex,
@@ -65,6 +73,7 @@ ERRORS = {
     "ratio": InvalidFraction, "ratios": InvalidRatios, "extra": InvalidDifferences, "shaft": InvalidShaft,
     "other_shaft": InvalidShaft, "speed": InvalidFraction, "other_locks": InvalidLocks, "lock": InvalidLock,
     "gears": InvalidGears, "outlet": InvalidShaft, "other_inlet": InvalidShaft, "looks": InvalidLooks,
+    "offered": InvalidLocks, "words": InvalidWords, "low": InvalidFraction, "high": InvalidFraction,
 }
 CALLS = {
     webs.is_tree: ("shafts", "differences"),
@@ -142,6 +151,21 @@ CALLS = {
     told.depends: ("box", "ratios", "locks", "inlet", "shaft"),
     told.ratio_from: ("box", "ratios", "locks", "inlet", "shaft", "speed"),
     told.look_plan: ("box", "ratios", "gears", "inlet"),
+    plans.gears_of: ("box", "ratios", "offered", "inlet"),
+    plans.kinds_of: ("box", "ratios", "offered", "inlet", "outlet"),
+    plans.sure_steps: ("box", "ratios", "offered", "inlet", "outlet"),
+    plans.levels: ("box", "ratios", "offered", "inlet", "outlet"),
+    plans.longest_ladder: ("box", "ratios", "offered", "inlet", "outlet"),
+    plans.judge_ladder: ("box", "ratios", "offered", "inlet", "outlet", "value"),
+    live.Bench: ("box", "inlet"),
+    live.SureBench: ("box", "inlet"),
+    words.write_box: ("box",),
+    words.write_ratios: ("box", "ratios"),
+    words.write_locks: ("shafts", "locks"),
+    words.write_range: ("low", "high"),
+    words.read_box: ("words",),
+    words.read_ratios: ("box", "words"),
+    words.read_locks: ("shafts", "words"),
 }
 # Wrong values of the parameter's own form, beside the values of all kinds.
 NEAR = {
@@ -187,7 +211,9 @@ NEAR = {
               [([(0, 3)], [(0, 1)] * 4)], [([], ((0, 1),) * 4)], [((), [(0, 1)] * 4)], [([], [(0, 1)] * 4, 0)], [([],)],
               [([], [(0, 1), (2, 4), (0, 1), (0, 1)])], [([], [(0, 1)] * 4), None], [[]], {}],
 }
-NEAR["other_locks"] = NEAR["locks"]
+NEAR["other_locks"] = NEAR["offered"] = NEAR["locks"]
+NEAR["words"] = ["3 planet 1 2", "", 3, ["3"], ("3",), b"3", "5 /2", "3-0 2-1", "5/2 ?"]
+NEAR["low"] = NEAR["high"] = NEAR["speed"] + ["*", "1/2"]
 
 
 def plain(part):
@@ -237,7 +263,11 @@ def is_right(name, value, works):
         return type(value) is list and value in ([], [[]], [[]] * 400)
     if name == "looks":
         return type(value) is list and not value
-    if name in ("locks", "other_locks"):
+    if name == "words":
+        return type(value) is str and value in ("1", "3 planet 1 2 3")
+    if name in ("low", "high"):
+        return value is None or is_right("speed", value, works)
+    if name in ("locks", "other_locks", "offered"):
         return type(value) is list and plain(value) and value in ([], [(1, 0)])
     return False
 
@@ -267,7 +297,7 @@ class WrongArgumentsTest(unittest.TestCase):
                         self.assertIs(type(caught.exception), ERRORS[name])
 
     def test_the_earlier_one_of_two_comes(self):
-        wrong = {name: [None, True, nested(list, 12), NEAR[name][0]] for name in ERRORS}
+        wrong = {name: ["x", True, nested(list, 12), NEAR[name][0]] for name in ERRORS}
         for call, names in CALLS.items():
             due = [name for name in names if name != "value"]
             for k, first in enumerate(due):
@@ -284,7 +314,7 @@ class WrongArgumentsTest(unittest.TestCase):
             if names == ("value",):
                 continue
             with self.subTest(call=call.__name__), self.assertRaises(ERRORS[names[0]]):
-                call(*[None for _ in names])
+                call(*[True for _ in names])
 
     def test_the_number_of_shafts_counts(self):
         with self.assertRaises(InvalidDifferences):

@@ -26,11 +26,18 @@ INTERFACE = {
     "loads.py": "balance is_balance torque_range load_range work_load_range power_sense freewheel",
     "splits.py": "split_driven unsplit shares share_range sum_range blend rest_range torque_split",
     "told.py": "told_by depends ratio_from look_plan",
+    "plans.py": "gears_of kinds_of sure_steps levels longest_ladder judge_ladder",
+    "live.py": "Bench SureBench",
+    "words.py": "write_box write_ratios write_locks write_range read_box read_ratios read_locks",
+    "console.py": "Console",
 }
 
 METHODS = {
     "Box": "__init__ shafts works __len__ __add__ __eq__",
     "Form": "__init__ terms __len__ __iter__ __add__ __sub__ __neg__ __mul__ __call__ __eq__",
+    "Bench": "__init__ box inlet locks ratios word on off shift tell undo range_of __len__ twin __eq__",
+    "SureBench": "__init__ on off shift tell twin",
+    "Console": "__init__ execute",
 }
 ALL_BUILTINS = {word for word in dir(builtins) if not word.startswith("_")}
 # L8, less what is not used here.
