@@ -86,4 +86,4 @@ def _extended(ways, options):
 def _columns(groups, difference):
     """The entries of a difference in the columns of the groups 1 and 2."""
     first, second = groups[difference[0]], groups[difference[1]]
-    return ((first == 1) - (second == 1), (first == 2) - (second == 2))
+    return (int(first == 1) - int(second == 1), int(first == 2) - int(second == 2))

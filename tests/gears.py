@@ -4,6 +4,7 @@ import random
 from itertools import product
 
 from planetlocks.boxes import Box
+from planetlocks.trees import driven
 
 TOLD = [(1, 1), (2, 1), (1, 3), (5, 2)]
 
@@ -35,6 +36,17 @@ def random_gears(seed, count, missing=1, shafts=(2, 3, 4, 5)):
         told = chance.choice([0, 0.5, 1])
         ratios = [chance.choice(TOLD) if chance.random() < told else None for _ in range(works)]
         found.append((box, ratios, random_locks(chance, size, size - missing - works)))
+    return found
+
+
+def driven_gears(seed, count, shafts=(2, 3, 4, 5)):
+    """Tuples (box, ratios, locks, inlet) of gears that are driven for all ratios."""
+    chance = random.Random(seed)
+    found = []
+    for box, ratios, locks in random_gears(seed, count, shafts=shafts):
+        inlet = chance.randint(1, box.shafts)
+        if driven(box, ratios, locks, inlet) == "all":
+            found.append((box, ratios, locks, inlet))
     return found
 
 

@@ -19,20 +19,10 @@ from planetlocks.trees import driven, tied, tree_form
 from planetlocks.webs import is_tree, judge_ring, ring_of, tree_count, tree_sets, tree_sign
 from planetlocks.words import read_box, read_locks, read_ratios, write_box, write_locks, write_range, write_ratios
 from tests import oracle
-from tests.gears import random_gears, random_locks, random_neighbours, random_told, random_work
+from tests.gears import driven_gears, random_gears, random_locks, random_neighbours, random_told, random_work
 from tests.judging import JudgingTest
 
 ORDER = {"plus": 1, "zero": 0, "minus": -1}
-
-
-def driven_gears(seed, count, shafts=(2, 3, 4, 5)):
-    chance = random.Random(seed)
-    found = []
-    for box, ratios, locks in random_gears(seed, count, shafts=shafts):
-        inlet = chance.randint(1, box.shafts)
-        if driven(box, ratios, locks, inlet) == "all":
-            found.append((box, ratios, locks, inlet))
-    return found
 
 
 def shrunk(found, later):

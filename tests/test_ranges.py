@@ -12,22 +12,11 @@ from planetlocks.motions import speeds_of
 from planetlocks.ranges import compared, ratios_for, same_speeds, slip_range, speed_range, sure_order
 from planetlocks.trees import driven
 from tests import oracle
-from tests.gears import random_gears, random_told
+from tests.gears import driven_gears, random_told
 from tests.judging import JudgingTest
 
 SET_OF = Box(3, [("planet", 1, 2, 3)])
 DOUBLE = Box(3, [("double", 1, 2, 3)])
-
-
-def driven_gears(seed, count):
-    """Tuples (box, ratios, locks, inlet) of gears that are driven for all ratios."""
-    chance = random.Random(seed)
-    found = []
-    for box, ratios, locks in random_gears(seed, count):
-        inlet = chance.randint(1, box.shafts)
-        if driven(box, ratios, locks, inlet) == "all":
-            found.append((box, ratios, locks, inlet))
-    return found
 
 
 def speeds_at(box, told, locks, inlet):

@@ -12,7 +12,7 @@ from planetlocks.ranges import ratios_for, speed_range
 from planetlocks.told import depends, look_plan, ratio_from, told_by
 from planetlocks.trees import driven
 from tests import oracle
-from tests.gears import all_locks, random_gears, random_told
+from tests.gears import all_locks, driven_gears, random_gears, random_told
 from tests.judging import JudgingTest
 
 SET_OF = Box(3, [("planet", 1, 2, 3)])
@@ -21,16 +21,6 @@ DOUBLE = Box(3, [("double", 1, 2, 3)])
 ROW = Box(6, [("planet", 1, 2, 3), ("planet", 2, 4, 3), ("band", 5, 6)])
 STILL = [(0, 1)] * 4
 SEEN = [(0, 1), (1, 1), (2, 7), (0, 1)]
-
-
-def driven_gears(seed, count):
-    chance = random.Random(seed)
-    found = []
-    for box, ratios, locks in random_gears(seed, count):
-        inlet = chance.randint(1, box.shafts)
-        if driven(box, ratios, locks, inlet) == "all":
-            found.append((box, ratios, locks, inlet))
-    return found
 
 
 def mixed_motion(chance, box, told, locks):
