@@ -150,17 +150,22 @@ class InvalidCommandTest(unittest.TestCase):
         self.judge(any_values() + [b"word", ["word"], ("word",)])
 
     def test_near_commands(self):
-        self.judge(["", " ", "Word", "WORD", " word", "word ", "word word", "words", "lock", "locks 3", "box 1", "ratios -",
+        self.judge(["", " ", "Word", "WORD", " word", "word ", "word word", "words", "lock", "locks 3", "box 1",
+                    "ratios -",
                     "undo 1", "undo ", "undoes", "help", "word\n", "undo\t", "ranges 1", "?", "-"])
 
     def test_shafts_and_works(self):
-        self.judge(["range", "range ", "range 10", "range 01", "range -1", "range -0", "range +1", "range x", "range 1 2",
-                    "range  1", "range 1 ", "range 1.0", "range \u0661", "faster 1", "faster", "faster 1 2 3", "faster 1  2",
-                    "faster 1 10", "faster 10 1", "faster x y", "tell", "tell 0", "tell 10 1/1", "tell 00 1/1", "tell -1 1/1",
+        self.judge(["range", "range ", "range 10", "range 01", "range -1", "range -0", "range +1", "range x",
+                    "range 1 2",
+                    "range  1", "range 1 ", "range 1.0", "range \u0661", "faster 1", "faster", "faster 1 2 3",
+                    "faster 1  2",
+                    "faster 1 10", "faster 10 1", "faster x y", "tell", "tell 0", "tell 10 1/1", "tell 00 1/1",
+                    "tell -1 1/1",
                     "tell x 1/1", "tell 0 1/1 2/1", "tell  0 1/1"])
 
     def test_locks(self):
-        self.judge(["on", "on ", "on 3", "on 4-5", "on 0-3", "on 3-3", "on 3-", "on -3", "on 10-0", "on 3-00", "on 03-0",
+        self.judge(["on", "on ", "on 3", "on 4-5", "on 0-3", "on 3-3", "on 3-", "on -3", "on 10-0", "on 3-00",
+                    "on 03-0",
                     "on 3--0", "on 3-0 2-1", "on 3 0", "on (3,0)", "on 3-x", "off", "off 3", "off 1-2", "off 3-0 ",
                     "shift", "shift 3-0", "shift 3-0 0-1", "shift 0-1 3-0", "shift 3-0 2-1 1-0", "shift 3-0  2-1",
                     "shift 3-0 2", "on 12-3"])

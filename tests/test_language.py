@@ -11,8 +11,8 @@ FOLDER = os.path.dirname(planetlocks.__file__)
 LIBRARY = {"heapq": {"heappush", "heappop"}, "math": {"gcd", "lcm"}}
 INTERFACE = {
     "errors.py": "BoxError InvalidShafts InvalidBox InvalidWork InvalidIndex InvalidDifferences InvalidLocks "
-                 "InvalidLock InvalidGears InvalidShaft InvalidOrder InvalidRatios InvalidFraction InvalidSpeeds InvalidLooks "
-                 "InvalidForm InvalidNumber Unbalanced NotDriven NotNeighbours SharedUnknown NotTelling NotEngaged "
+                 "InvalidLock InvalidGears InvalidShaft InvalidOrder InvalidRatios InvalidFraction InvalidSpeeds "
+                 "InvalidLooks InvalidForm InvalidNumber Unbalanced NotDriven NotNeighbours SharedUnknown NotTelling NotEngaged "
                  "NothingToUndo InvalidCommand NotReady Contradiction Refused InvalidWords",
     "webs.py": "is_tree tree_sign holding_order judge_order ring_of judge_ring apart tree_count tree_sets",
     "boxes.py": "Box is_fraction is_work is_locks is_ratios first_difference second_difference sense_at with_work "
@@ -45,8 +45,8 @@ BUILTINS = ("len range enumerate zip min max sum abs sorted reversed int str boo
             "repr any all divmod iter type super property ValueError NotImplemented TypeError True False None").split()
 # L25.
 BUILTIN_METHODS = ("append clear copy count endswith extend find get index insert isalnum isalpha isdigit islower "
-                   "isspace isupper items join keys ljust lower lstrip partition pop remove replace reverse rfind rjust "
-                   "rpartition rsplit rstrip setdefault split splitlines startswith strip update upper values zfill "
+                   "isspace isupper items join keys ljust lower lstrip partition pop remove replace reverse rfind "
+                   "rjust rpartition rsplit rstrip setdefault split splitlines startswith strip update upper values zfill "
                    "bit_length").split()
 # L17, in code and strings.
 BARRED = ("register mro elements open input law version_info with_traceback add_note attrgetter breakpoint builtins "

@@ -375,7 +375,8 @@ class ErrorsTest(unittest.TestCase):
             self.assertIs(type(caught.exception), error)
 
     def test_pairs(self):
-        near = [(3, 0), (0, 3), (1, 1), (4, 0), (True, 0), (2, False), [2, 1], "2-1", (2,), (2, 1, 0), (2, -1), ((2, 1),)]
+        near = [(3, 0), (0, 3), (1, 1), (4, 0), (True, 0), (2, False), [2, 1], "2-1", (2,), (2, 1, 0), (2, -1),
+                ((2, 1),)]
         for kind in BOTH:
             bench = kind(SET_OF, 1)
             bench.on((3, 0))

@@ -188,7 +188,8 @@ class LadderTest(JudgingTest):
             self.assertIs(judge_ladder(*given, value), False)
             self.assertIs(judge_ladder(*given, [0, 2, value]), type(value) is int and value == 1)
             self.assertIs(judge_ladder(SET_OF, [None], [], 1, 2, value), type(value) is list and value == [])
-        for value in ([0, 1], [0, 2], [2, 1], [0], [], [0, 2, 1, 1], (0, 2, 1), [0, 2, True], [False, 2, 1], [1, 2, 0],
+        for value in ([0, 1], [0, 2], [2, 1], [0], [], [0, 2, 1, 1], (0, 2, 1), [0, 2, True], [False, 2, 1], [1, 2, 0], [1, 2, 1],
+                      [2, 2, 1], [0, 0, 1], [0, 2, 0],
                       [0, 2, -2], [0, 2, 4], ["0", "2", "1"]):
             self.assertIs(judge_ladder(*given, value), False)
 
