@@ -12,8 +12,8 @@ LIBRARY = {"heapq": {"heappush", "heappop"}, "math": {"gcd", "lcm"}}
 INTERFACE = {
     "errors.py": "BoxError InvalidShafts InvalidBox InvalidWork InvalidIndex InvalidDifferences InvalidLocks "
                  "InvalidLock InvalidGears InvalidShaft InvalidOrder InvalidRatios InvalidFraction InvalidSpeeds "
-                 "InvalidLooks InvalidForm InvalidNumber Unbalanced NotDriven NotNeighbours SharedUnknown NotTelling NotEngaged "
-                 "NothingToUndo InvalidCommand NotReady Contradiction Refused InvalidWords",
+                 "InvalidLooks InvalidForm InvalidNumber Unbalanced NotDriven NotNeighbours SharedUnknown "
+                 "NotTelling NotEngaged NothingToUndo InvalidCommand NotReady Contradiction Refused InvalidWords",
     "webs.py": "is_tree tree_sign holding_order judge_order ring_of judge_ring apart tree_count tree_sets",
     "boxes.py": "Box is_fraction is_work is_locks is_ratios first_difference second_difference sense_at with_work "
                 "without_work turned renamed renamed_locks",
@@ -46,8 +46,8 @@ BUILTINS = ("len range enumerate zip min max sum abs sorted reversed int str boo
 # L25.
 BUILTIN_METHODS = ("append clear copy count endswith extend find get index insert isalnum isalpha isdigit islower "
                    "isspace isupper items join keys ljust lower lstrip partition pop remove replace reverse rfind "
-                   "rjust rpartition rsplit rstrip setdefault split splitlines startswith strip update upper values zfill "
-                   "bit_length").split()
+                   "rjust rpartition rsplit rstrip setdefault split splitlines startswith strip update upper values "
+                   "zfill bit_length").split()
 # L17, in code and strings.
 BARRED = ("register mro elements open input law version_info with_traceback add_note attrgetter breakpoint builtins "
           "compile copyright credits delattr dir eval exec exit gc getattr globals hasattr help id importlib license "
